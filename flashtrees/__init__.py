@@ -1,0 +1,1 @@
+"""Flashtrees: files on raw flash, whatever is cut, again and again."""

@@ -1,0 +1,60 @@
+"""The interface: each name in its own file, with the arguments as written."""
+
+import inspect
+import unittest
+
+from flashtrees import chip, errors, pages
+
+GIVEN, INDEX = ("self", "given"), ("self", "index")
+FUNCTIONS = {
+    pages: {
+        "is_page": ("value",), "is_blank": ("page",), "is_within": ("page", "other"), "zeros_in": ("page",),
+        "state_of": ("page",), "word_of": ("numbers",), "told_by": ("page",), "programmed": ("old", "word", "mask"),
+        "erased": ("old", "mask"), "program_may_leave": ("old", "word", "result"),
+        "erase_may_leave": ("old", "result"), "clash": ("checks",)},
+    chip: {"is_image": ("value",), "blank_image": ("blocks", "pages"), "is_luck": ("value",)},
+}
+METHODS = {
+    chip.Chip: {
+        "__init__": ("self", "image", "luck"), "read": ("self", "block", "page"),
+        "program": ("self", "block", "page", "word"), "erase": ("self", "block"), "image": ("self",),
+        "size": ("self",), "operations": ("self",), "is_cut": ("self",)},
+    errors.InvalidPage: {"__init__": GIVEN}, errors.InvalidNumber: {"__init__": GIVEN},
+    errors.InvalidKey: {"__init__": GIVEN}, errors.InvalidValue: {"__init__": GIVEN},
+    errors.InvalidTree: {"__init__": GIVEN}, errors.InvalidDeed: {"__init__": GIVEN},
+    errors.InvalidPath: {"__init__": GIVEN}, errors.InvalidLine: {"__init__": GIVEN},
+    errors.Refused: {"__init__": ("self", "word")}, errors.InvalidNumbers: {"__init__": INDEX},
+    errors.InvalidImage: {"__init__": INDEX}, errors.InvalidLuck: {"__init__": INDEX},
+    errors.InvalidBlocks: {"__init__": INDEX}, errors.InvalidTable: {"__init__": INDEX},
+    errors.InvalidNotes: {"__init__": INDEX},
+}
+
+
+class InterfaceTest(unittest.TestCase):
+    def assert_signature(self, called, names):
+        parameters = list(inspect.signature(called).parameters.values())
+        self.assertEqual(tuple([each.name for each in parameters]), names, called)
+        for each in parameters:
+            self.assertEqual((each.kind, each.default), (each.POSITIONAL_OR_KEYWORD, each.empty), called)
+
+    def test_functions(self):
+        for module, functions in FUNCTIONS.items():
+            for name, names in functions.items():
+                self.assertEqual(getattr(module, name).__module__, module.__name__)
+                self.assert_signature(getattr(module, name), names)
+
+    def test_methods_stand_in_the_class_itself(self):
+        for owner, methods in METHODS.items():
+            for name, names in methods.items():
+                self.assertIn(name, vars(owner))
+                self.assert_signature(vars(owner)[name], names)
+
+    def test_classes_stand_in_their_files(self):
+        self.assertEqual(chip.Chip.__module__, "flashtrees.chip")
+        for value in vars(errors).values():
+            if inspect.isclass(value):
+                self.assertEqual(value.__module__, "flashtrees.errors")
+
+
+if __name__ == "__main__":
+    unittest.main()
