@@ -32,13 +32,18 @@ def is_unit(value):
     return is_between(value, 0, GREATEST_UNIT)
 
 
-def require_numbers(numbers):
-    """InvalidNumbers for what no page can tell."""
-    if not isinstance(numbers, tuple) or len(numbers) > MOST_NUMBERS:
+def require_units(numbers, least, most):
+    """InvalidNumbers for no tuple of LEAST up to MOST numbers that a unit holds."""
+    if not isinstance(numbers, tuple) or not least <= len(numbers) <= most:
         raise InvalidNumbers(None)
     wrong = first_wrong(numbers, is_unit)
     if wrong is not None:
         raise InvalidNumbers(wrong)
+
+
+def require_numbers(numbers):
+    """InvalidNumbers for what no page can tell."""
+    require_units(numbers, 0, MOST_NUMBERS)
 
 
 def lies_within(inner, outer):

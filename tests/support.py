@@ -79,5 +79,7 @@ class FlashCase(unittest.TestCase):
             if name == "index" and value is not None:
                 self.assertIs(kept[name].__class__, int)
                 self.assertEqual(kept[name], value, (args, named))
+            elif name == "word":
+                self.assertEqual(kept[name], value, (args, named))
             else:
                 self.assertIs(kept[name], value, (args, named))

@@ -3,9 +3,11 @@
 import inspect
 import unittest
 
-from flashtrees import chip, errors, pages
+from flashtrees import chip, errors, notes, pages, reading, trees
 
 GIVEN, INDEX = ("self", "given"), ("self", "index")
+OF_IMAGE = ("kinds_in", "start_of", "listed", "notes_in", "counting", "table_of", "greatest_deed", "greatest_node",
+            "known_erasures", "known_bads", "is_orderly")
 FUNCTIONS = {
     pages: {
         "is_page": ("value",), "is_blank": ("page",), "is_within": ("page", "other"), "zeros_in": ("page",),
@@ -13,6 +15,14 @@ FUNCTIONS = {
         "erased": ("old", "mask"), "program_may_leave": ("old", "word", "result"),
         "erase_may_leave": ("old", "result"), "clash": ("checks",)},
     chip: {"is_image": ("value",), "blank_image": ("blocks", "pages"), "is_luck": ("value",)},
+    notes: {
+        "head_numbers": ("many", "order", "start", "bads", "erasures"), "note_numbers": ("deed", "flag", "key", "value"),
+        "drop_numbers": ("start",), "told_of": ("many", "numbers"), "is_key": ("value",), "is_value": ("key", "value"),
+        "is_name": ("value",)},
+    reading: {**{name: ("image",) for name in OF_IMAGE}, "told_by_table": ("table",), "next_page": ("image", "block")},
+    trees: {
+        "is_tree": ("value",), "is_deed": ("value",), "is_path": ("value",), "node_at": ("tree", "path"),
+        "refusal": ("tree", "deed"), "behind": ("tree", "deed"), "paths_of": ("tree",), "links_of": ("tree", "path")},
 }
 METHODS = {
     chip.Chip: {
@@ -48,6 +58,9 @@ class InterfaceTest(unittest.TestCase):
             for name, names in methods.items():
                 self.assertIn(name, vars(owner))
                 self.assert_signature(vars(owner)[name], names)
+
+    def test_plain_names(self):
+        self.assertEqual((pages.WIDTH, pages.BLANK, trees.EMPTY), (522, 2 ** 522 - 1, ("folder", ())))
 
     def test_classes_stand_in_their_files(self):
         self.assertEqual(chip.Chip.__module__, "flashtrees.chip")
