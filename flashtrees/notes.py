@@ -2,7 +2,7 @@
 
 from flashtrees.arguments import first_wrong, is_between, require_between
 from flashtrees.chip import LEAST, MOST
-from flashtrees.errors import InvalidBlocks, InvalidKey, InvalidValue
+from flashtrees.errors import InvalidBlocks, InvalidKey, InvalidTable, InvalidValue
 from flashtrees.pages import GREATEST_UNIT, UNIT_WIDTH, is_unit, require_numbers, require_units
 
 GREATEST = (1 << 32) - 1
@@ -109,6 +109,25 @@ def require_key(key):
     """InvalidKey for no key."""
     if not is_key(key):
         raise InvalidKey(key)
+
+
+def require_table(table):
+    """InvalidTable for no table."""
+    if not isinstance(table, tuple):
+        raise InvalidTable(None)
+    wrong = wrong_pair_in(table)
+    if wrong is not None:
+        raise InvalidTable(wrong)
+
+
+def greatest_node_in(pairs):
+    """The greatest node number in pairs of keys and values; 0 if there are none."""
+    greatest = 0
+    for key, value in pairs:
+        greatest = max(greatest, key[1])
+        if key[0] == "name" and value is not None:
+            greatest = max(greatest, value)
+    return greatest
 
 
 def require_blocks(blocks, many):
@@ -250,10 +269,8 @@ def drop_told(numbers):
     return None if start < 1 else ("drop", start)
 
 
-def told_of(many, numbers):
-    """The head, note or drop that numbers tell on a chip of MANY blocks; None for idle ones."""
-    require_between(many, LEAST, MOST)
-    require_numbers(numbers)
+def told_in(many, numbers):
+    """The head, note or drop that numbers tell on a chip of MANY blocks, taken as they are; None for idle ones."""
     kind = numbers[0] if numbers else 0
     if kind == HEAD:
         return head_told(many, numbers)
@@ -262,3 +279,10 @@ def told_of(many, numbers):
     if kind == DROP:
         return drop_told(numbers)
     return None
+
+
+def told_of(many, numbers):
+    """The head, note or drop that numbers tell on a chip of MANY blocks; None for idle ones."""
+    require_between(many, LEAST, MOST)
+    require_numbers(numbers)
+    return told_in(many, numbers)

@@ -7,6 +7,7 @@ WIDTH = 522
 BLANK = (1 << WIDTH) - 1
 
 CHECK_WIDTH = 10
+CHECKS = (1 << CHECK_WIDTH) - 1
 DATA_WIDTH = WIDTH - CHECK_WIDTH
 UNIT_WIDTH = 16
 UNITS = DATA_WIDTH // UNIT_WIDTH
@@ -80,8 +81,12 @@ def state_of(page):
     """Whether a page is "blank", "whole" or "half"."""
     if is_blank(page):
         return "blank"
-    check = page & ((1 << CHECK_WIDTH) - 1)
-    return "whole" if check == zeros_in(page) else "half"
+    return "whole" if page & CHECKS == zeros_in(page) else "half"
+
+
+def has_low_check(page):
+    """Whether a page's check is below the number of its data's bits that are 0: an erase may make it whole."""
+    return page & CHECKS < count_zeros(page >> CHECK_WIDTH)
 
 
 def word_of(numbers):
@@ -94,20 +99,21 @@ def word_of(numbers):
     return (data << CHECK_WIDTH) | count_zeros(data)
 
 
-def units_in(page):
-    """The units of a page's data, the highest one first."""
-    shifts = range(WIDTH - UNIT_WIDTH, 0, -UNIT_WIDTH)
-    return tuple([(page >> shift) & GREATEST_UNIT for shift in shifts])
+def numbers_held(page):
+    """The numbers that a whole page tells; None if it tells nothing."""
+    many = page >> (WIDTH - UNIT_WIDTH)
+    if many > MOST_NUMBERS:
+        return None
+    end = WIDTH - UNIT_WIDTH * (1 + many)
+    behind = page & ((1 << end) - 1)
+    if behind >> CHECK_WIDTH != 0:
+        return None
+    return tuple([(page >> shift) & GREATEST_UNIT for shift in range(WIDTH - 2 * UNIT_WIDTH, end - 1, -UNIT_WIDTH)])
 
 
 def told_by(page):
     """The numbers that a page tells; None if it tells nothing."""
-    if state_of(page) != "whole":
-        return None
-    many, *rest = units_in(page)
-    if many > MOST_NUMBERS or any(rest[many:]):
-        return None
-    return tuple(rest[:many])
+    return numbers_held(page) if state_of(page) == "whole" else None
 
 
 def programmed(old, word, mask):

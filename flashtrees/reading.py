@@ -2,9 +2,8 @@
 
 from flashtrees.arguments import require_between
 from flashtrees.chip import require_image
-from flashtrees.errors import InvalidTable
-from flashtrees.notes import COPY, END, told_of, wrong_pair_in
-from flashtrees.pages import BLANK, state_of, told_by
+from flashtrees.notes import COPY, END, greatest_node_in, require_table, told_in
+from flashtrees.pages import BLANK, numbers_held, state_of
 
 IDLE = ("idle",)
 
@@ -14,29 +13,27 @@ def told_by_page(many, page):
     state = state_of(page)
     if state != "whole":
         return (state,)
-    numbers = told_by(page)
-    told = None if numbers is None else told_of(many, numbers)
+    numbers = numbers_held(page)
+    told = None if numbers is None else told_in(many, numbers)
     return IDLE if told is None else told
 
 
-def told_by_block(many, pages):
-    """What the pages of a block tell, one by one; a head behind the first whole page is idle."""
+def with_one_head(pages):
+    """What the pages of a block tell, if each one by itself tells this: a head behind the first whole page is idle."""
     told = []
     is_first = True
-    for page in pages:
-        one = told_by_page(many, page)
-        if one[0] == "head" and not is_first:
-            one = IDLE
+    for one in pages:
+        told.append(IDLE if one[0] == "head" and not is_first else one)
         if one[0] not in ("blank", "half"):
             is_first = False
-        told.append(one)
     return tuple(told)
 
 
 def told_on(image):
     """For each block the tuple of what its pages tell; InvalidImage for no image."""
     require_image(image)
-    return tuple([told_by_block(len(image), pages) for _, _, pages in image])
+    many = len(image)
+    return tuple([with_one_head([told_by_page(many, page) for page in pages]) for _, _, pages in image])
 
 
 def head_in(pages):
@@ -123,6 +120,44 @@ def are_keys_in_order(notes):
     return True
 
 
+def table_given(givers):
+    """The table in which each key has the value that its giver gives: the keys ascending, gone ones too."""
+    return tuple([(key, givers[key][5]) for key in sorted(givers)])
+
+
+def erasures_told(head, many):
+    """The erasures that a current block's head tells; 0 for each of MANY blocks without one."""
+    return (0,) * many if head is None else head[4]
+
+
+def bads_told(head):
+    """The blocks that a current block's head tells as bad; none without one."""
+    return () if head is None else head[3]
+
+
+def greatest_deed_in(notes):
+    """The greatest deed number of the notes; 0 if there are none."""
+    return max([note[2] for note in notes], default=0)
+
+
+def greatest_node_told(notes):
+    """The greatest node number in keys and values of the notes; 0 if there are none."""
+    return greatest_node_in([note[4:] for note in notes])
+
+
+def page_behind(pages):
+    """The index of the first page behind the last one that is not blank; None if there is none."""
+    behind = [index + 1 for index, page in enumerate(pages) if page != BLANK]
+    found = max(behind, default=0)
+    return None if found == len(pages) else found
+
+
+def are_in_order(blocks, notes, those):
+    """Whether listed blocks, their notes and THOSE of them that count are as an orderly image has them."""
+    orders = [order for _, order in blocks]
+    return len(set(orders)) == len(orders) and are_deeds_in_order(notes) and are_keys_in_order(those)
+
+
 def kinds_in(image):
     """For each block the tuple of a word for each page."""
     return tuple([tuple([page[0] for page in pages]) for pages in told_on(image)])
@@ -150,17 +185,12 @@ def counting(image):
 
 def table_of(image):
     """The table of an image: the pairs (KEY, VALUE), the keys ascending, gone ones too."""
-    givers = givers_among(counting(image))
-    return tuple([(key, givers[key][5]) for key in sorted(givers)])
+    return table_given(givers_among(counting(image)))
 
 
 def told_by_table(table):
     """The pairs of a table without gone ones."""
-    if not isinstance(table, tuple):
-        raise InvalidTable(None)
-    wrong = wrong_pair_in(table)
-    if wrong is not None:
-        raise InvalidTable(wrong)
+    require_table(table)
     return tuple([(key, value) for key, value in table if value is not None])
 
 
@@ -168,44 +198,31 @@ def next_page(image, block):
     """The page of a block that is programmed next; None if there is none."""
     require_image(image)
     require_between(block, 0, len(image) - 1)
-    pages = image[block][2]
-    behind = [index + 1 for index, page in enumerate(pages) if page != BLANK]
-    found = max(behind, default=0)
-    return None if found == len(pages) else found
+    return page_behind(image[block][2])
 
 
 def greatest_deed(image):
     """The greatest deed number of the notes; 0 if there are none."""
-    return max([note[2] for note in notes_in(image)], default=0)
+    return greatest_deed_in(notes_in(image))
 
 
 def greatest_node(image):
     """The greatest node number in keys and values of the notes; 0 if there are none."""
-    greatest = 0
-    for _, _, _, _, key, value in notes_in(image):
-        greatest = max(greatest, key[1])
-        if key[0] == "name" and value is not None:
-            greatest = max(greatest, value)
-    return greatest
+    return greatest_node_told(notes_in(image))
 
 
 def known_erasures(image):
     """The erasures of all blocks, as the current block's head tells them; 0 for each without one."""
-    head = current_head(told_on(image))
-    return (0,) * len(image) if head is None else head[4]
+    return erasures_told(current_head(told_on(image)), len(image))
 
 
 def known_bads(image):
     """The blocks that the current block's head tells as bad; none without one."""
-    head = current_head(told_on(image))
-    return () if head is None else head[3]
+    return bads_told(current_head(told_on(image)))
 
 
 def is_orderly(image):
     """Whether an image is orderly."""
     told = told_on(image)
-    orders = [order for _, order in listed_in(told)]
     notes = notes_told(told)
-    if len(set(orders)) != len(orders) or not are_deeds_in_order(notes):
-        return False
-    return are_keys_in_order(those_counting(notes))
+    return are_in_order(listed_in(told), notes, those_counting(notes))

@@ -3,7 +3,7 @@
 import inspect
 import unittest
 
-from flashtrees import chip, errors, notes, pages, reading, trees
+from flashtrees import chip, errors, notes, pages, reading, shelf, store, trees, turning
 
 GIVEN, INDEX = ("self", "given"), ("self", "index")
 OF_IMAGE = ("kinds_in", "start_of", "listed", "notes_in", "counting", "table_of", "greatest_deed", "greatest_node",
@@ -23,12 +23,23 @@ FUNCTIONS = {
     trees: {
         "is_tree": ("value",), "is_deed": ("value",), "is_path": ("value",), "node_at": ("tree", "path"),
         "refusal": ("tree", "deed"), "behind": ("tree", "deed"), "paths_of": ("tree",), "links_of": ("tree", "path")},
+    turning: {
+        "is_sound": ("table",), "tree_told": ("table",), "live_keys": ("table",), "notes_for": ("table", "first", "deed"),
+        "table_behind": ("table", "notes"), "table_for": ("tree",)},
+    store: {"opened_tree": ("image",), "played": ("image", "luck", "spare", "held", "deeds")},
 }
 METHODS = {
     chip.Chip: {
         "__init__": ("self", "image", "luck"), "read": ("self", "block", "page"),
         "program": ("self", "block", "page", "word"), "erase": ("self", "block"), "image": ("self",),
         "size": ("self",), "operations": ("self",), "is_cut": ("self",)},
+    shelf.Shelf: {
+        "__init__": ("self", "chip", "spare"), "table": ("self",), "do": ("self", "notes"), "live": ("self",),
+        "space": ("self",), "free": ("self",), "reserve": ("self",)},
+    store.Store: {
+        "__init__": ("self", "chip", "spare", "held"), "live": ("self",), "do": ("self", "deed"), "sync": ("self",),
+        "why_not": ("self", "deed"), "tree": ("self",), "names": ("self", "path"), "cells": ("self", "path", "at", "many"),
+        "pause": ("self",), "resume": ("self",)},
     errors.InvalidPage: {"__init__": GIVEN}, errors.InvalidNumber: {"__init__": GIVEN},
     errors.InvalidKey: {"__init__": GIVEN}, errors.InvalidValue: {"__init__": GIVEN},
     errors.InvalidTree: {"__init__": GIVEN}, errors.InvalidDeed: {"__init__": GIVEN},
@@ -59,11 +70,18 @@ class InterfaceTest(unittest.TestCase):
                 self.assertIn(name, vars(owner))
                 self.assert_signature(vars(owner)[name], names)
 
+    def test_properties_stand_in_the_class_itself(self):
+        for owner, names in ((shelf.Shelf, ("room", "bads")), (store.Store, ("room", "waiting", "done", "written"))):
+            for name in names:
+                self.assertIsInstance(vars(owner)[name], property)
+                self.assertIsNone(vars(owner)[name].fset)
+
     def test_plain_names(self):
         self.assertEqual((pages.WIDTH, pages.BLANK, trees.EMPTY), (522, 2 ** 522 - 1, ("folder", ())))
 
     def test_classes_stand_in_their_files(self):
-        self.assertEqual(chip.Chip.__module__, "flashtrees.chip")
+        for module, name in ((chip, "Chip"), (shelf, "Shelf"), (store, "Store")):
+            self.assertEqual(getattr(module, name).__module__, module.__name__)
         for value in vars(errors).values():
             if inspect.isclass(value):
                 self.assertEqual(value.__module__, "flashtrees.errors")

@@ -3,11 +3,11 @@
 import unittest
 
 from flashtrees import chip as chips
-from flashtrees import notes, pages, reading, trees
+from flashtrees import notes, pages, reading, shelf, store, trees, turning
 from flashtrees.chip import Chip, blank_image
-from flashtrees.errors import PowerCut
+from flashtrees.errors import InvalidNumber, PowerCut
 from flashtrees.pages import BLANK
-from tests.support import FlashCase, refusal_of
+from tests.support import FlashCase, refusal_of, wrong_numbers
 from tests.wrongs import FULL, RIGHT, wrong_calls
 
 FUNCTIONS = (
@@ -48,7 +48,18 @@ FUNCTIONS = (
     (trees.behind, ("tree", "tree"), ("deed", "deed")),
     (trees.paths_of, ("tree", "tree")),
     (trees.links_of, ("tree", "tree"), ("path", "path")),
+    (turning.is_sound, ("table", "table")),
+    (turning.tree_told, ("table", "sound table")),
+    (turning.live_keys, ("table", "sound table")),
+    (turning.notes_for, ("table", "sound table"), ("first", "first"), ("deed", "deed")),
+    (turning.table_behind, ("table", "sound table"), ("notes", "notes")),
+    (turning.table_for, ("tree", "tree")),
+    (store.opened_tree, ("image", "image")),
+    (store.played, ("image", "image"), ("luck", "luck"), ("spare", "spare"), ("held", "held"), ("deeds", "deeds")),
 )
+SHELF_METHODS = (("do", ("notes", "notes")),)
+STORE_METHODS = (("do", ("deed", "deed")), ("why_not", ("deed", "deed")), ("names", ("path", "path")),
+                 ("cells", ("path", "path"), ("at", "cells"), ("many", "cells")))
 METHODS = (
     ("read", ("block", "block index"), ("page", "page index")),
     ("program", ("block", "block index"), ("page", "page index"), ("word", "page")),
@@ -108,6 +119,46 @@ class WrongTest(FlashCase):
             for passed, error in wrong_calls(signature):
                 if passed[0].__class__ is int and passed[0] == 1:
                     self.assert_refused(error, getattr(chip, name), 0, *passed[1:])
+
+    def assert_methods(self, owner, methods):
+        """That each wrong argument is refused, by position and by name."""
+        for name, *signature in methods:
+            for passed, error in wrong_calls(signature):
+                self.assert_refused(error, getattr(owner, name), *passed)
+            named = {each: value for (each, _), value in zip(signature, passed)}
+            self.assert_refused(error, getattr(owner, name), **named)
+
+    def test_shelves_and_stores_and_that_nothing_changes(self):
+        for make, methods in ((lambda chip: shelf.Shelf(chip, 1), SHELF_METHODS),
+                              (lambda chip: store.Store(chip, 1, 0), STORE_METHODS)):
+            chip = Chip(blank_image(5, 5), ())
+            owner = make(chip)
+            self.assert_methods(owner, methods)
+            self.assertEqual((chip.image(), chip.operations()), (blank_image(5, 5), 0))
+            # Wrong arguments are told ahead of the power that is gone.
+            cut = Chip(blank_image(5, 5), (("cut", 0),))
+            owner = make(cut)
+            self.assert_refused(PowerCut(), cut.erase, 0)
+            self.assert_methods(owner, methods)
+            for name, *signature in methods:
+                self.assert_refused(PowerCut(), getattr(owner, name), *[RIGHT[kind] for _, kind in signature])
+
+    def test_opening_shelves_and_stores(self):
+        for many in range(5, 13):
+            most = min(3, many - 4)
+            for is_cut in (False, True):
+                chip = Chip(blank_image(many, 5), (("cut", 0),))
+                if is_cut:
+                    self.assert_refused(PowerCut(), chip.erase, 0)
+                for value in wrong_numbers(0, most) + [4, many]:
+                    self.assert_refused(InvalidNumber(value), shelf.Shelf, chip, value)
+                    self.assert_refused(InvalidNumber(value), store.Store, chip, value, None)
+                    self.assert_refused(InvalidNumber(value), store.Store, chip=chip, spare=value, held=0)
+                for value in wrong_numbers(0, 300):
+                    self.assert_refused(InvalidNumber(value), store.Store, chip, most, value)
+            for held in (0, 1, 300):
+                chip = Chip(blank_image(many, 5), ())
+                self.assertEqual(store.Store(chip=chip, spare=most, held=held).room, shelf.Shelf(chip=chip, spare=most).room)
 
     def test_right_ends_of_indexes(self):
         for block in (0, 6):

@@ -1,11 +1,12 @@
 """Wrong and right values for each kind of argument, and the calls that pass one wrong argument."""
 
-from flashtrees.errors import (InvalidBlocks, InvalidDeed, InvalidImage, InvalidKey, InvalidLuck, InvalidNumber,
-                               InvalidNumbers, InvalidPage, InvalidPath, InvalidTable, InvalidTree, InvalidValue)
+from flashtrees.errors import (InvalidBlocks, InvalidDeed, InvalidImage, InvalidKey, InvalidLuck, InvalidNotes,
+                               InvalidNumber, InvalidNumbers, InvalidPage, InvalidPath, InvalidTable, InvalidTree,
+                               InvalidValue, NotSound)
 from flashtrees.pages import BLANK
 from tests.support import GREAT, NO_NUMBERS, NO_TUPLES, nested, wrong_numbers
 from tests.values import (BAD_DEEDS, BAD_KEYS, BAD_PAIRS, BAD_PATHS, BAD_TREES, BAD_VALUES, GREATEST, NO_FILE, PAIRS,
-                          folder_of)
+                          REMOVE, folder_of)
 
 FULL = (BLANK,) * 5
 GOOD = (False, 0, FULL)
@@ -37,6 +38,24 @@ BAD_OUTCOMES = NO_NUMBERS + [
     ("Done",), ("cuts", 1), (b"done",), (Ellipsis, 1), ("fails", "1"), ["cut", 1], 0, -1, GREAT]
 
 OTHER_FIRST = (False, 0, FULL + (BLANK,))
+
+
+def wrong_pairs(error):
+    """What is no tuple of keys and values, the keys ascending."""
+    return [(value, error(None)) for value in NO_TUPLES + [list(PAIRS), [], {}]] + wrong_rows(error, PAIRS, BAD_PAIRS) + [
+        ((PAIRS[0],) * 2, error(1)), (PAIRS[1::-1], error(1)), (PAIRS + PAIRS[3:], error(4)),
+        (PAIRS + PAIRS[:1], error(4)), (PAIRS + (None,), error(4)), (PAIRS[0], error(0)),
+        ((PAIRS[0], (PAIRS[0][0], None)), error(1)), (PAIRS[:3] + (PAIRS[2],) + PAIRS[:1], error(3)),
+        ((PAIRS[1], (("node", 1), ("folder", 0))), error(1))]
+
+
+def wrong_deeds():
+    """What is no tuple of up to 30 deeds."""
+    rows = NO_TUPLES + [[REMOVE], [], (REMOVE,) * 31, (None,) * 31, (REMOVE,) * 1000]
+    told = [(value, InvalidDeed(value)) for value in rows]
+    for value in BAD_DEEDS:
+        told += [(rest, InvalidDeed(value)) for rest in ((value,), (REMOVE,) * 29 + (value,), (REMOVE, value, None))]
+    return told
 
 
 WRONG = {
@@ -75,12 +94,15 @@ WRONG = {
     "key": with_given(InvalidKey, BAD_KEYS),
     "value of a piece": with_given(InvalidValue, BAD_VALUES["piece"]),
     "block": with_given(InvalidNumber, wrong_numbers(0, 4)),
-    "table": [(value, InvalidTable(None)) for value in NO_TUPLES + [list(PAIRS), [], {}]]
-    + wrong_rows(InvalidTable, PAIRS, BAD_PAIRS)
-    + [((PAIRS[0],) * 2, InvalidTable(1)), (PAIRS[1::-1], InvalidTable(1)), (PAIRS + PAIRS[3:], InvalidTable(4)),
-       (PAIRS + PAIRS[:1], InvalidTable(4)), (PAIRS + (None,), InvalidTable(4)), (PAIRS[0], InvalidTable(0)),
-       ((PAIRS[0], (PAIRS[0][0], None)), InvalidTable(1)), (PAIRS[:3] + (PAIRS[2],) + PAIRS[:1], InvalidTable(3)),
-       ((PAIRS[1], (("node", 1), ("folder", 0))), InvalidTable(1))],
+    "table": wrong_pairs(InvalidTable),
+    "sound table": wrong_pairs(InvalidTable) + [(value, NotSound()) for value in (
+        PAIRS, PAIRS[:1], ((("name", 0, "b"), 7), (("node", 8), ("file", 0))))],
+    "notes": wrong_pairs(InvalidNotes),
+    "first": with_given(InvalidNumber, wrong_numbers(2, GREATEST - 8)),
+    "spare": with_given(InvalidNumber, wrong_numbers(0, 1) + [3, 4]),
+    "held": with_given(InvalidNumber, wrong_numbers(0, 300)),
+    "cells": with_given(InvalidNumber, wrong_numbers(0, 256)),
+    "deeds": wrong_deeds(),
     "tree": with_given(InvalidTree, BAD_TREES),
     "deed": with_given(InvalidDeed, BAD_DEEDS),
     "path": with_given(InvalidPath, BAD_PATHS),
@@ -91,7 +113,8 @@ RIGHT = {
     "image": (GOOD,) * 5, "luck": (DONE, ("cut", 1)),
     "long": 7, "start up to order": 7, "flag": 1, "bads": (0, 4), "erasures": (0,) * 5, "key": ("piece", 1, 0),
     "value of a piece": (7,), "block": 4, "table": PAIRS, "tree": folder_of(("a", NO_FILE)), "deed": ("file", ("b",)),
-    "path": ("a",), "whatever": None,
+    "path": ("a",), "whatever": None, "sound table": PAIRS[:3], "notes": PAIRS[:3], "first": 2, "spare": 1, "held": 300,
+    "cells": 256, "deeds": (REMOVE, ("folder", ("b",))),
 }
 
 
