@@ -78,7 +78,7 @@ class BesideTest(unittest.TestCase):
                 told = some_luck(luck, 60, luck.randrange(3))
                 image = self.run_beside(luck, image, spare, told, 25)
         self.assertGreater(self.met["done"], 400)
-        self.assertGreater(self.met["PowerCut"], 30)
+        self.assertGreater(self.met["PowerCut"], 15)
         self.assertGreater(self.met["WornOut"], 50)
 
     def test_images_of_others(self):
