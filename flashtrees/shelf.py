@@ -1,7 +1,7 @@
 """A shelf: it writes the notes of deeds on a chip, and cleans blocks to make space for them."""
 
-from flashtrees.arguments import require_between
-from flashtrees.errors import NoRoom, NotOrderly, NotSound, PowerCut, WornOut
+from flashtrees.arguments import is_between
+from flashtrees.errors import InvalidNumber, NoRoom, NotOrderly, NotSound, PowerCut, WornOut
 from flashtrees.notes import COPY, END, GREATEST, drop_numbers, head_numbers, note_numbers
 from flashtrees.pages import GREATEST_UNIT, word_of
 from flashtrees.surveys import Survey
@@ -16,9 +16,15 @@ MOST_CLEANINGS = 100
 GREATEST_COUNT = GREATEST - 9999
 
 
+def is_spare(value, many):
+    """Whether a value is a SPARE that a chip of MANY blocks may have."""
+    return is_between(value, 0, min(MOST_SPARE, many - LEAST_SOUND))
+
+
 def require_spare(spare, many):
-    """InvalidNumber for what can be no SPARE of a chip of MANY blocks."""
-    require_between(spare, 0, min(MOST_SPARE, many - LEAST_SOUND))
+    """InvalidNumber for what is no SPARE of a chip of MANY blocks."""
+    if not is_spare(spare, many):
+        raise InvalidNumber(spare)
 
 
 def room_of(many, size, spare):
@@ -40,8 +46,8 @@ class Shelf:
         self._survey = Survey([self._read(block, size) for block in range(many)])
         if self._survey.kept() is None:
             raise NotOrderly()
-        self._bads = self._survey.bads()
-        self._erasures = list(self._survey.erasures())
+        self._bads = self._survey.told_bads()
+        self._erasures = list(self._survey.told_erasures())
         current = self._survey.current
         self._is_leftover = current is not None and current not in self._bads and self._survey.may_erase(current)
 
@@ -66,12 +72,12 @@ class Shelf:
     def space(self):
         """How many note pages there are ahead of the reserve; it may be below 0."""
         page = self._note_page()
-        left = 0 if page is None else self._survey.size - 1 - page
-        return left + (self.free() - self.reserve()) * (self._survey.size - 2)
+        left = 0 if page is None else self._survey.many_pages - 1 - page
+        return left + (self.free() - self.reserve()) * (self._survey.many_pages - 2)
 
     def free(self):
         """How many blocks are free."""
-        return len([block for block in range(self._survey.many) if self._is_free(block)])
+        return len([block for block in range(self._survey.many_blocks) if self._is_free(block)])
 
     def reserve(self):
         """How many free blocks deeds leave for cleanings and for blocks that fail."""
@@ -123,7 +129,7 @@ class Shelf:
     def _erase(self, block):
         """Erase a block, and read it again; whether that was done."""
         is_done = self._chip.erase(block)
-        self._survey.take_block(block, self._read(block, self._survey.size))
+        self._survey.take_block(block, self._read(block, self._survey.many_pages))
         if is_done:
             self._erasures[block] = min(GREATEST_UNIT, self._erasures[block] + 1)
         return self._settle(block, is_done)
@@ -146,7 +152,7 @@ class Shelf:
         if current is None or current in self._bads:
             return None
         page = self._survey.next_page(current)
-        return None if page is None or page > self._survey.size - 2 else page
+        return None if page is None or page > self._survey.many_pages - 2 else page
 
     def _begin_block(self, block):
         """Erase a block and give it a head; whether both were done."""
@@ -155,11 +161,12 @@ class Shelf:
         last = self._survey.last_order()
         start = self._survey.start
         order = start if last is None else last + 1
-        return self._program(block, 0, head_numbers(self._survey.many, order, start, self._bads, tuple(self._erasures)))
+        numbers = head_numbers(self._survey.many_blocks, order, start, self._bads, tuple(self._erasures))
+        return self._program(block, 0, numbers)
 
     def _free_block(self):
         """The free block that is taken next, going round from behind the current one; None."""
-        many = self._survey.many
+        many = self._survey.many_blocks
         first = 0 if self._survey.current is None else self._survey.current + 1
         for step in range(many):
             block = (first + step) % many

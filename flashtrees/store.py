@@ -1,8 +1,8 @@
 """A store: a tree on a chip, deeds that wait and are written in order, whatever is cut."""
 
-from flashtrees.arguments import require_between
+from flashtrees.arguments import is_between, require_between
 from flashtrees.chip import Chip, require_image, require_luck
-from flashtrees.errors import InvalidDeed, NoRoom, NotOrderly, PowerCut, Refused, WornOut
+from flashtrees.errors import InvalidDeed, InvalidNumber, NoRoom, NotOrderly, PowerCut, Refused, WornOut
 from flashtrees.notes import MOST_CELLS
 from flashtrees.shelf import Shelf, require_spare
 from flashtrees.surveys import survey_of
@@ -16,25 +16,45 @@ MOST_PLAYED = 30
 LEFT_FREE = 3
 
 
+def is_held(value):
+    """Whether a value is a HELD."""
+    return is_between(value, 0, MOST_HELD)
+
+
 def require_held(held):
-    """InvalidNumber for what can be no HELD."""
-    require_between(held, 0, MOST_HELD)
+    """InvalidNumber for no HELD."""
+    if not is_held(held):
+        raise InvalidNumber(held)
+
+
+def are_few(value):
+    """Whether a value is a tuple of no more elements than deeds are played."""
+    return isinstance(value, tuple) and len(value) <= MOST_PLAYED
+
+
+def are_played(value):
+    """Whether a value is a tuple of deeds that can be played."""
+    return are_few(value) and all([is_deed(deed) for deed in value])
 
 
 def require_deeds(deeds):
-    """InvalidDeed for no tuple of up to 30 deeds, or for the first element that is none."""
-    if not isinstance(deeds, tuple) or len(deeds) > MOST_PLAYED:
+    """InvalidDeed for what are no deeds that can be played: with the first element that is none, or the whole value."""
+    if not are_few(deeds):
         raise InvalidDeed(deeds)
     for deed in deeds:
         require_deed(deed)
 
 
-class Plan:
-    """What a deed would do to a store's table: the word by which it is refused, or its notes and what is behind."""
+def require_open(image):
+    """NotOrderly if an image does not open."""
+    if opened_tree(image) is None:
+        raise NotOrderly()
 
-    def __init__(self, table, first, deed):
-        self.word, self.notes, self.first = turned(table, first, deed)
-        self.table = live_part(merged(table, self.notes))
+
+def planned(table, first, deed):
+    """What a deed would do to a store's table: (WORD, NOTES, NEXT, BEHIND), BEHIND being what lives behind it."""
+    word, notes, later_first = turned(table, first, deed)
+    return word, notes, later_first, live_part(merged(table, notes))
 
 
 class Store:
@@ -86,20 +106,20 @@ class Store:
         """Do a deed; how many notes it has."""
         require_deed(deed)
         self._require_power()
-        plan = Plan(self._table, self._first, deed)
-        if plan.word is not None:
-            raise Refused(plan.word)
-        if not self._has_room(plan):
+        word, notes, later_first, later = planned(self._table, self._first, deed)
+        if word is not None:
+            raise Refused(word)
+        if not self._has_room(notes, later):
             raise NoRoom()
-        if self._is_worn or (plan.first > self._first and self._first > GREATEST_FIRST):
+        if self._is_worn or (later_first > self._first and self._first > GREATEST_FIRST):
             raise WornOut()
-        self._table = plan.table
-        self._first = plan.first
-        self._queue.append(plan.notes)
-        self._waiting += len(plan.notes)
+        self._table = later
+        self._first = later_first
+        self._queue.append(notes)
+        self._waiting += len(notes)
         self._done += 1
         self._write_surplus()
-        return len(plan.notes)
+        return len(notes)
 
     def sync(self):
         """Write all that waits; how many deeds that were."""
@@ -115,10 +135,10 @@ class Store:
         """The word by which a deed would be refused now, "no room", or None."""
         require_deed(deed)
         self._require_power()
-        plan = Plan(self._table, self._first, deed)
-        if plan.word is None and not self._has_room(plan):
+        word, notes, _, later = planned(self._table, self._first, deed)
+        if word is None and not self._has_room(notes, later):
             return "no room"
-        return plan.word
+        return word
 
     def tree(self):
         """The tree behind all deeds done."""
@@ -160,10 +180,10 @@ class Store:
         if self._chip.is_cut():
             raise PowerCut()
 
-    def _has_room(self, plan):
-        """Whether the shelf has room for a deed, and for one more behind it that makes live keys no more."""
-        live, later = len(self._table), len(plan.table)
-        return live + len(plan.notes) <= self._room and (later <= live or later <= self._room - LEFT_FREE)
+    def _has_room(self, notes, later):
+        """Whether there is room for the notes of a deed, and LATER, what lives behind it, leaves room for more."""
+        live = len(self._table)
+        return live + len(notes) <= self._room and len(later) <= max(live, self._room - LEFT_FREE)
 
     def _write_surplus(self):
         """Write deeds as long as more notes wait than may; how many deeds that were."""

@@ -12,8 +12,8 @@ class Survey:
     """What pages tell; what follows from it is found when it is asked for, and kept till a page is read anew."""
 
     def __init__(self, blocks):
-        self.many = len(blocks)
-        self.size = len(blocks[0])
+        self.many_blocks = len(blocks)
+        self.many_pages = len(blocks[0])
         self._blocks = list(blocks)
         self._alone = [self._told_alone(pages) for pages in blocks]
         self._told = [with_one_head(alone) for alone in self._alone]
@@ -29,7 +29,7 @@ class Survey:
     def take_page(self, block, page, word):
         """Take a page as it was read anew."""
         pages, alone = self._blocks[block], self._alone[block]
-        told = told_by_page(self.many, word)
+        told = told_by_page(self.many_blocks, word)
         self._blocks[block] = pages[:page] + (word,) + pages[page + 1:]
         self._alone[block] = alone[:page] + (told,) + alone[page + 1:]
         self._told[block] = with_one_head(self._alone[block])
@@ -43,11 +43,11 @@ class Survey:
         """The order of the last listed block; None if no block is listed."""
         return None if self.current is None else self._orders[self.current]
 
-    def erasures(self):
+    def told_erasures(self):
         """The erasures of all blocks as the current block's head tells them."""
-        return erasures_told(self._current_head(), self.many)
+        return erasures_told(self._current_head(), self.many_blocks)
 
-    def bads(self):
+    def told_bads(self):
         """The blocks that the current block's head tells as bad."""
         return bads_told(self._current_head())
 
@@ -127,7 +127,7 @@ class Survey:
 
     def _told_alone(self, pages):
         """What each page of a block tells by itself."""
-        return tuple([told_by_page(self.many, page) for page in pages])
+        return tuple([told_by_page(self.many_blocks, page) for page in pages])
 
     def _current_head(self):
         return None if self.current is None else head_in(self._told[self.current])

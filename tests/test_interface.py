@@ -3,7 +3,8 @@
 import inspect
 import unittest
 
-from flashtrees import chip, errors, notes, pages, reading, shelf, store, trees, turning
+from flashtrees import (certificates, checker, chip, desk, errors, examiner, notes, pages, reading, shelf, store, trees,
+                        turning)
 
 GIVEN, INDEX = ("self", "given"), ("self", "index")
 OF_IMAGE = ("kinds_in", "start_of", "listed", "notes_in", "counting", "table_of", "greatest_deed", "greatest_node",
@@ -27,6 +28,12 @@ FUNCTIONS = {
         "is_sound": ("table",), "tree_told": ("table",), "live_keys": ("table",), "notes_for": ("table", "first", "deed"),
         "table_behind": ("table", "notes"), "table_for": ("tree",)},
     store: {"opened_tree": ("image",), "played": ("image", "luck", "spare", "held", "deeds")},
+    examiner: {"findings": ("image",), "may_erase": ("image", "block")},
+    checker: {"accepts": ("claim", "paper")},
+    certificates: {
+        "certify_image": ("image",), "certify_opens": ("image", "tree"),
+        "certify_program": ("image", "block", "page", "word", "tree"), "certify_erase": ("image", "block"),
+        "certify_played": ("image", "luck", "spare", "held", "deeds")},
 }
 METHODS = {
     chip.Chip: {
@@ -40,6 +47,7 @@ METHODS = {
         "__init__": ("self", "chip", "spare", "held"), "live": ("self",), "do": ("self", "deed"), "sync": ("self",),
         "why_not": ("self", "deed"), "tree": ("self",), "names": ("self", "path"), "cells": ("self", "path", "at", "many"),
         "pause": ("self",), "resume": ("self",)},
+    desk.Desk: {"__init__": ("self",), "say": ("self", "line"), "image": ("self",)},
     errors.InvalidPage: {"__init__": GIVEN}, errors.InvalidNumber: {"__init__": GIVEN},
     errors.InvalidKey: {"__init__": GIVEN}, errors.InvalidValue: {"__init__": GIVEN},
     errors.InvalidTree: {"__init__": GIVEN}, errors.InvalidDeed: {"__init__": GIVEN},
@@ -80,7 +88,7 @@ class InterfaceTest(unittest.TestCase):
         self.assertEqual((pages.WIDTH, pages.BLANK, trees.EMPTY), (522, 2 ** 522 - 1, ("folder", ())))
 
     def test_classes_stand_in_their_files(self):
-        for module, name in ((chip, "Chip"), (shelf, "Shelf"), (store, "Store")):
+        for module, name in ((chip, "Chip"), (shelf, "Shelf"), (store, "Store"), (desk, "Desk")):
             self.assertEqual(getattr(module, name).__module__, module.__name__)
         for value in vars(errors).values():
             if inspect.isclass(value):

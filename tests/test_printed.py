@@ -37,7 +37,7 @@ class PrintedTest(unittest.TestCase):
     def test_the_printed_sessions_hold(self):
         names = {}
         steps = list(steps_of(PRINTED.read_text()))
-        self.assertEqual(len(steps), 75)
+        self.assertEqual(len(steps), 89)
         for typed, answer in steps:
             with self.subTest(typed=typed):
                 self.assertEqual(answer_to(typed, names), answer)

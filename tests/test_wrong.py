@@ -3,7 +3,7 @@
 import unittest
 
 from flashtrees import chip as chips
-from flashtrees import notes, pages, reading, shelf, store, trees, turning
+from flashtrees import certificates, examiner, notes, pages, reading, shelf, store, trees, turning
 from flashtrees.chip import Chip, blank_image
 from flashtrees.errors import InvalidNumber, PowerCut
 from flashtrees.pages import BLANK
@@ -56,6 +56,15 @@ FUNCTIONS = (
     (turning.table_for, ("tree", "tree")),
     (store.opened_tree, ("image", "image")),
     (store.played, ("image", "image"), ("luck", "luck"), ("spare", "spare"), ("held", "held"), ("deeds", "deeds")),
+    (examiner.findings, ("image", "image")),
+    (examiner.may_erase, ("image", "image"), ("block", "block")),
+    (certificates.certify_image, ("image", "image")),
+    (certificates.certify_opens, ("image", "image"), ("tree", "tree")),
+    (certificates.certify_program, ("image", "image"), ("block", "block"), ("page", "block"), ("word", "page"),
+     ("tree", "tree")),
+    (certificates.certify_erase, ("image", "image"), ("block", "block")),
+    (certificates.certify_played, ("image", "image"), ("luck", "luck"), ("spare", "spare"), ("held", "held"),
+     ("deeds", "deeds")),
 )
 SHELF_METHODS = (("do", ("notes", "notes")),)
 STORE_METHODS = (("do", ("deed", "deed")), ("why_not", ("deed", "deed")), ("names", ("path", "path")),
