@@ -176,9 +176,7 @@ class Desk:
     def _turn_on(self, image, luck):
         """Open a store on an image, if it opens."""
         self._chip = Chip(image, luck)
-        self._store = None
         try:
             self._store = Store(self._chip, self._spare, self._held)
         except NotOrderly:
-            # The power stays off.
             self._store = None

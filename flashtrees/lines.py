@@ -32,7 +32,7 @@ def path_of(word):
         return ()
     first, *names = word.split("/")
     path = tuple(names)
-    return path if first == "" and len(path) > 0 and is_path(path) else None
+    return path if first == "" and is_path(path) else None
 
 
 def path_text(path):

@@ -2,7 +2,7 @@
 
 from flashtrees.arguments import is_between
 from flashtrees.errors import InvalidNumber, NoRoom, NotOrderly, NotSound, PowerCut, WornOut
-from flashtrees.notes import COPY, END, GREATEST, drop_numbers, head_numbers, note_numbers
+from flashtrees.notes import COPY, END, drop_numbers, head_numbers, note_numbers
 from flashtrees.pages import GREATEST_UNIT, word_of
 from flashtrees.surveys import Survey
 from flashtrees.tables import live_part, merged
@@ -13,7 +13,7 @@ MOST_SPARE = 3
 LEAST_SOUND = 4
 MOST_CLEANINGS = 100
 # No count comes to the greatest number that a page can tell while one deed is written.
-GREATEST_COUNT = GREATEST - 9999
+GREATEST_COUNT = (1 << 32) - 10000
 
 
 def is_spare(value, many):
@@ -44,7 +44,7 @@ class Shelf:
         self._spare = spare
         self._room = room_of(many, size, spare)
         self._survey = Survey([self._read(block, size) for block in range(many)])
-        if self._survey.kept() is None:
+        if self._survey.kept_nodes() is None:
             raise NotOrderly()
         self._bads = self._survey.told_bads()
         self._erasures = list(self._survey.told_erasures())

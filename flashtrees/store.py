@@ -210,7 +210,7 @@ class Store:
 def opened_tree(image):
     """The tree that an image opens to; None if it does not open."""
     require_image(image)
-    kept = survey_of(image).kept()
+    kept = survey_of(image).kept_nodes()
     return None if kept is None else tree_kept(kept)
 
 

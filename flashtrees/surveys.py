@@ -101,7 +101,7 @@ class Survey:
         """Whether the pages are those of an orderly image."""
         return are_in_order(self.listed, self.notes(), self.counting())
 
-    def kept(self):
+    def kept_nodes(self):
         """What Nodes keep of the nodes that the image opens to; None if it does not open."""
         return kept_by(self.table()) if self.is_orderly() else None
 

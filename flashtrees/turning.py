@@ -3,12 +3,12 @@
 from flashtrees.arguments import is_between
 from flashtrees.errors import InvalidNotes, InvalidNumber, NotSound, Refused
 from flashtrees.nodes import ROOT, Nodes, nodes_of, tree_of
-from flashtrees.notes import GREATEST, greatest_node_in, require_table, wrong_pair_in
+from flashtrees.notes import greatest_node_in, require_table, wrong_pair_in
 from flashtrees.tables import due_in, kept_by, live_part, merged, turned
 from flashtrees.trees import require_deed, require_tree
 
 # A deed makes up to eight nodes, so none gets a number that no key can tell.
-GREATEST_FIRST = GREATEST - 8
+GREATEST_FIRST = (1 << 32) - 9
 
 
 def require_notes(notes):

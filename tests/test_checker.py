@@ -5,7 +5,7 @@ import unittest
 from flashtrees.certificates import certify_erase, certify_image, certify_opens, certify_played, certify_program
 from flashtrees.checker import accepts
 from flashtrees.chip import Chip, blank_image
-from flashtrees.errors import InvalidLuck, NotOrderly, PowerCut
+from flashtrees.errors import InvalidDeed, InvalidLuck, NotOrderly, PowerCut
 from flashtrees.examiner import findings, may_erase
 from flashtrees.pages import BLANK, WIDTH, state_of
 from flashtrees.reading import is_orderly
@@ -181,6 +181,14 @@ class JudgeTest(unittest.TestCase):
         self.assertGreater(met[True, False], 100)
         self.assertGreater(met[False, True], 30)
 
+    def test_masks_that_are_too_wide(self):
+        claim = ("program breaks", LEFT, 0, 0, 512, FILE)
+        for paper, right in ((0, True), (BLANK, False), (BLANK + 1, False), (BLANK * 2 + 2, False), (-1, False)):
+            self.assertIs(accepts(claim, paper), right)
+        claim = ("erase breaks", LEFT, 0)
+        for paper, right in ((BLANK, True), ((1 << 5 * WIDTH) - 1, True), ((1 << 5 * WIDTH) + BLANK, False), (0, False)):
+            self.assertIs(accepts(claim, paper), right)
+
     def test_bad_blocks_and_images_that_do_not_open(self):
         for image in (tuple([(True,) + block[1:] for block in LEFT]), WRONG_ORDER, UNSOUND):
             for claim, paper in SO:
@@ -250,22 +258,22 @@ class CertifyTest(FlashCase):
         self.assertGreater(min(met.values()), 10)
 
     def test_masks_of_programs(self):
-        """Pages that were written are programmed again: a mask that leaves enough bits makes the first word one more."""
-        image = image_of(5, 5, (head(5, 1), note(1, 1, B, None), note(2, 0, A, 1), note(2, 0, ONE, ("file", 7))))
-        told = certify_program(image, 0, 4, note(2, 1, B, None), EMPTY)
-        self.assertEqual((told[0][0], told[1]), ("program breaks", 0))
-        told = certify_program(image, 0, 4, note(2, 1, B, None), FILE)
-        self.assertEqual(told[0][0], "program breaks")
-        seven = behind(FILE, ("cut", ("a",), 7))
-        self.assertEqual(certify_program(image, 0, 4, note(2, 1, B, None), seven)[0][0], "program keeps")
-        kept = with_page(image, 0, 4, note(2, 1, B, None))
-        for bits in (1, 2, 4, 8, 16, 32, 64, 128, 256, 512):
-            # The word has the page's lowest bits 0 and all others of the page, so the mask must have them.
-            page = note(2, 1, B, None)
-            word = page & ~((1 << bits) - 1)
-            told = certify_program(kept, 0, 4, word, EMPTY)
-            wanted = [mask for mask in MASKS if accepts(("program breaks", kept, 0, 4, word, EMPTY), mask)]
-            self.assertEqual(told and told[1], wanted[0] if wanted else None)
+        """The least mask that leaves a word of notes: that of which the bits ahead of it alone leave too few."""
+        image = image_of(5, 5, (head(5, 1), note(1, 0, A, 1), note(1, 1, ONE, ("file", 256))))
+        luck, widths = seeded(70), (0, 1, 2, 4, 8, 16, 128, 256, 512)
+        for before, width in zip((0,) + widths, widths):
+            between = ((1 << width) - 1) & ~((1 << before) - 1)
+            new = 0
+            while width > 0 and new & between == 0:
+                new = note(2, 1, ("piece", 1, 0), tuple([luck.randrange(1, 65536) for _ in range(16)]))
+            new = new or note(2, 1, B, 1)
+            # What stands on the page has the new word within it, and is half.
+            half = with_page(image, 0, 3, new | 1 << (WIDTH - 1))
+            word = new & ~((1 << width) - 1)
+            told = certify_program(half, 0, 3, word, EMPTY)
+            self.assertEqual(told, (("program breaks", half, 0, 3, word, EMPTY), (1 << width) - 1))
+            self.assert_accepted(told)
+        self.assertIsNone(certify_program(image, 0, 3, BLANK, EMPTY))
 
     def test_erases(self):
         luck, met = seeded(68), {}
@@ -349,6 +357,7 @@ class CertifyTest(FlashCase):
                             ((DONE,) * 500 + (("fails", BLANK + 1),), 500)):
             self.assert_refused(InvalidLuck(index), certify_played, BLOCKS, told, 1, 2, DEEDS)
             self.assert_refused(InvalidLuck(index), certify_played, UNSOUND, told, None, None, None)
+        self.assert_refused(InvalidDeed(None), certify_played, UNSOUND, (), 1, 2, (DEEDS[0], None))
         self.assert_refused(InvalidLuck(1), certify_played, BLOCKS, (("cut", GREAT), ("cut",)), 1, 2, DEEDS)
         self.assert_refused(NotOrderly(), certify_played, UNSOUND, (DONE,) * 401, 1, 2, DEEDS)
         self.assertIsNone(certify_played(BLOCKS, (DONE, ("fails", 0)), 0, 2, DEEDS))

@@ -9,7 +9,8 @@ from flashtrees.pages import BLANK, WIDTH, told_by
 from flashtrees.reading import counting, kinds_in, listed, notes_in, start_of, table_of
 from flashtrees.shelf import Shelf
 from tests.images import HALF, drop, head, image_of, note, with_page
-from tests.support import FlashCase
+from tests.stories import cut_mask, wear
+from tests.support import FlashCase, seeded
 from tests.values import GREATEST
 
 A, B, C = ("name", 0, "a"), ("name", 0, "b"), ("name", 0, "c")
@@ -412,6 +413,49 @@ class AnewTest(FlashCase):
         self.assertEqual(chip.image(), image)
 
 
+class RoomTest(FlashCase):
+    """[C10]: what has room is written without WornOut, whatever blocks fail up to SPARE."""
+
+    def fill(self, shelf, live):
+        """Let so many keys live: names of one file, each deed within the room."""
+        if live > 0:
+            shelf.do(((("name", 0, "n0"), 1), (ONE, ("file", 0))))
+        for number in range(1, live - 1):
+            shelf.do(((("name", 0, "n" + str(number)), 1),))
+
+    def write_often(self, many, size, spare, live, told):
+        chip = Chip(blank_image(many, size), told)
+        shelf = Shelf(chip, spare)
+        self.fill(shelf, live)
+        gone = tuple([(("name", 0, "z" + str(number)), None) for number in range(10, 10 + shelf.room - live)])
+        gone = gone + ((("name", 0, "zz"), None),)
+        for number in range(12):
+            if len(gone) > 1:
+                self.assertIsNone(shelf.do(gone[:-1]))
+            self.assert_refused(NoRoom(), shelf.do, gone)
+            self.assertEqual(shelf.live(), live)
+        self.assertLessEqual(len(shelf.bads), spare)
+        return chip
+
+    def test_each_number_of_live_keys(self):
+        for many, size, spare in ((5, 5, 0), (5, 5, 1), (7, 5, 3), (6, 8, 1), (12, 5, 2)):
+            room = (many - spare - 2) * (size - 2)
+            for live in [0] + list(range(2, room + 1)):
+                self.write_often(many, size, spare, live, ())
+
+    def test_with_blocks_that_fail(self):
+        luck = seeded(71)
+        for many, size, spare in ((5, 5, 1), (6, 5, 2), (7, 5, 3), (8, 6, 2)):
+            room = (many - spare - 2) * (size - 2)
+            for live in [0] + list(range(2, room + 1)):
+                for _ in range(3):
+                    told = [DONE] * luck.choice((20, 100, 200))
+                    for _ in range(spare):
+                        told[luck.randrange(len(told))] = ("fails", cut_mask(luck, WIDTH * luck.choice((1, size))))
+                    chip = self.write_often(many, size, spare, live, tuple(told))
+                    self.assertLessEqual(wear(chip.image()), 1)
+
+
 class CleaningTest(FlashCase):
     def full(self, shelf, many):
         """Give a fresh shelf a file of so many links, then fill its blocks."""
@@ -483,6 +527,36 @@ class CleaningTest(FlashCase):
         for _ in range(2):
             self.assert_refused(WornOut(), shelf.do, ((B, None),))
             self.assertEqual(chip.image(), image)
+
+    def test_no_drop_that_frees_nothing(self):
+        """The eldest block has one giver more than a fresh one takes: no drop yet, though a page is left for it."""
+        names = [note(2, 2, ("name", 0, name), 1) for name in "abc"]
+        eldest = (head(5, 1), note(1, 1, ONE, ("file", 0)), *names)
+        others = [(head(5, order), note(order + 1, 1, ("name", 0, "z"), None), RAGGED, RAGGED) for order in (2, 3)]
+        chip = Chip(image_of(5, 5, eldest, *others), ())
+        shelf = Shelf(chip, 0)
+        self.assertEqual((shelf.live(), shelf.space(), shelf.free(), shelf.reserve()), (4, 3, 2, 1))
+        shelf.do(length(3) + ((("piece", 1, 0), (1,)), (("piece", 1, 1), None), (("piece", 1, 2), None)))
+        self.assertEqual(kinds_in(chip.image())[3], ("head", "note", "note", "note", "blank"))
+        self.assertEqual([each[4] for each in notes_in(chip.image()) if each[0] == 3], [ONE, A, B])
+        # The second fresh block takes the last one, and what it can of the first.
+        self.assertEqual([each[4] for each in notes_in(chip.image()) if each[0] == 4], [C, ONE, A])
+        self.assertEqual((kinds_in(chip.image())[4][4], start_of(chip.image())), ("drop", 4))
+
+    def test_no_page_is_left_for_a_drop(self):
+        """All blocks are listed, the eldest ones could be dropped, but the current one is full."""
+        rows = [(head(5, order),) + (RAGGED,) * 4 for order in range(1, 5)]
+        rows.append((head(5, 5), note(1, 1, B, None), RAGGED, RAGGED, RAGGED))
+        image = image_of(5, 5, *rows)
+        chip = Chip(image, ())
+        shelf = Shelf(chip, 0)
+        self.assert_refused(WornOut(), shelf.do, ((B, None),))
+        self.assertEqual((chip.image(), shelf.free(), shelf.space()), (image, 0, -3))
+        # With a page left a drop frees them all.
+        chip = Chip(with_page(image, 4, 4, BLANK), ())
+        shelf = Shelf(chip, 0)
+        shelf.do(((B, None),))
+        self.assertEqual((listed(chip.image()), start_of(chip.image())), (((4, 5), (0, 6)), 5))
 
     def test_counts_that_would_end(self):
         for count, right in ((LAST_COUNT, True), (LAST_COUNT + 1, False), (GREATEST, False)):

@@ -3,7 +3,7 @@
 import unittest
 
 from flashtrees.chip import Chip, blank_image
-from flashtrees.errors import NoRoom, NotOrderly, PowerCut, Refused, WornOut
+from flashtrees.errors import InvalidDeed, NoRoom, NotOrderly, PowerCut, Refused, WornOut
 from flashtrees.pages import BLANK
 from flashtrees.reading import notes_in, table_of
 from flashtrees.store import Store, opened_tree, played
@@ -239,6 +239,15 @@ class CutTest(FlashCase):
             for call, *passed in CALLS:
                 self.assert_refused(PowerCut(), getattr(store, call), *passed)
 
+    def test_power_that_is_gone_with_nothing_waiting(self):
+        chip = Chip(blank_image(6, 12), (DONE,) * 4 + (("cut", 0),))
+        store = Store(chip, 0, 0)
+        store.do(("file", A))
+        self.assert_refused(PowerCut(), chip.erase, 5)
+        for name, *passed in CALLS:
+            self.assert_refused(PowerCut(), getattr(store, name), *passed)
+        self.assertEqual((told(store), store.room), ((0, 1, 1), 40))
+
     def test_power_that_is_gone_ahead_of_refusals(self):
         chip = Chip(blank_image(6, 5), (("cut", 0),))
         store = Store(chip, 0, 0)
@@ -337,6 +346,11 @@ class WornTest(FlashCase):
             for outcome, word in ((("fails", BLANK), "worn out"), (("cut", BLANK), "cut")):
                 image, done, ended = played(blank_image(5, 5), (DONE,) * many + (outcome,), 0, held, deeds)
                 self.assertEqual((done, ended, opened_tree(image)), (done_here, word, after(*kept)))
+
+    def test_deeds_are_looked_at_ahead_of_all(self):
+        for image in (NOT_ORDERLY, blank_image(5, 5)):
+            for told in ((), (("cut", 0),), (("fails", 0),)):
+                self.assert_refused(InvalidDeed(7), played, image, told, 0, 0, (("file", A), ("file", B), 7, None))
 
     def test_played_stops_at_the_first_worn_out(self):
         node = (("node", GREATEST), ("file", 3))
