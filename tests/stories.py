@@ -94,7 +94,8 @@ def any_small_deed(luck, tree):
     if kind in ("folder", "file"):
         return (kind, new)
     if kind == "write":
-        return (kind, there, luck.choice((0, 3, 15, 16, 200)), tuple([luck.randrange(4) for _ in range(luck.randrange(4))]))
+        return (kind, there, luck.choice((0, 3, 15, 16, 200)),
+                tuple([luck.randrange(4) for _ in range(luck.randrange(4))]))
     if kind == "cut":
         return (kind, there, luck.choice((0, 1, 16, 17, 256)))
     if kind == "remove":
@@ -216,4 +217,5 @@ class Story:
         for call in (lambda: self.store.do(("cut", ("f",), 1)), lambda: self.store.do(("folder", ("q",))),
                      self.store.sync, self.store.resume):
             self.case.assertIn(refusal_of(call)[0], (WornOut, Refused, NoRoom))
-        self.case.assertEqual((self.store.tree(), self.store.waiting, self.chip.image()), (self.trees[-1], waiting, image))
+        self.case.assertEqual((self.store.tree(), self.store.waiting, self.chip.image()),
+                              (self.trees[-1], waiting, image))

@@ -53,10 +53,13 @@ class AcceptsTest(FlashCase):
             self.assertIs(accepts(claim=claim, paper=paper), True, claim[0])
 
     def test_papers_of_other_kinds(self):
-        papers = NO_NUMBERS + [0, 1, -1, GREAT, (0,), ((),), (("done",),), ("unlike", 0, 2), [("unlike", 0, 2)], ["done"],
-                               ("unlike", 0, 3), ("unlike", 0), ("unlike", 0, 2, 0), ("unlike", False, 2), (Alike(), 0, 2),
+        papers = NO_NUMBERS + [0, 1, -1, GREAT, (0,), ((),), (("done",),), ("unlike", 0, 2), [("unlike", 0, 2)],
+                               ["done"],
+                               ("unlike", 0, 3), ("unlike", 0), ("unlike", 0, 2, 0), ("unlike", False, 2),
+                               (Alike(), 0, 2),
                                ("unlike", Alike(), 2), (b"unlike", 0, 2), ("ended", 0, 1), nested(40), BLANK, BLANK + 1]
-        right = {"not orderly": [("unlike", 0, 2)], "program breaks": [0], "erase breaks": [BLANK], "leads to": [(), (("done",),)]}
+        right = {"not orderly": [("unlike", 0, 2)], "program breaks": [0], "erase breaks": [BLANK],
+                 "leads to": [(), (("done",),)]}
         for claim, _ in SO:
             for paper in papers:
                 wanted = right.get(claim[0], [()])
@@ -86,7 +89,8 @@ class AcceptsTest(FlashCase):
             "word": [value for value, _ in WRONG["page"]], "spare": [value for value, _ in WRONG["spare"]],
             "held": [value for value, _ in WRONG["held"]], "deeds": [value for value, _ in WRONG["deeds"]]}
         forms = {
-            "opens to": ("image", "tree"), "opens not to": ("image", "tree"), "orderly": ("image",), "not orderly": ("image",),
+            "opens to": ("image", "tree"), "opens not to": ("image", "tree"), "orderly": ("image",),
+            "not orderly": ("image",),
             "program keeps": ("image", "block", "page", "word", "tree"), "erase keeps": ("image", "block"),
             "program breaks": ("image", "block", "page", "word", "tree"), "erase breaks": ("image", "block"),
             "leads to": ("image", "spare", "held", "deeds", "image")}
@@ -137,14 +141,16 @@ class JudgeTest(unittest.TestCase):
         kind = luck.random()
         if kind < 0.4:
             return luck.choice(some_words(luck, image))
-        return luck.choice((some_note_page(luck), some_page_of(luck, len(image)), head(len(image), 9), drop(2), luck.getrandbits(WIDTH)))
+        return luck.choice((some_note_page(luck), some_page_of(luck, len(image)), head(len(image), 9), drop(2),
+                            luck.getrandbits(WIDTH)))
 
     def test_programs(self):
         luck, met = seeded(64), {}
         while sum(met.values()) < 1000:
             image = luck.choice((orderly_image, rough_image))(luck)
             tree = opened_tree(image)
-            block, page, word = luck.randrange(len(image)), luck.randrange(len(image[0][2])), self.some_word(luck, image)
+            block, page = luck.randrange(len(image)), luck.randrange(len(image[0][2]))
+            word = self.some_word(luck, image)
             end = ByHand(image).next_page(block)
             if end is not None and luck.random() < 0.7:
                 page = end
@@ -172,7 +178,8 @@ class JudgeTest(unittest.TestCase):
             for block in range(len(image)):
                 is_kept = tree is not None and may_erase(image, block) and not image[block][0]
                 self.assertIs(accepts(("erase keeps", image, block), ()), is_kept)
-                for mask in (0, (1 << bits) - 1, cut_mask(luck, bits), BLANK << (WIDTH * luck.randrange(bits // WIDTH)), 1 << bits):
+                for mask in (0, (1 << bits) - 1, cut_mask(luck, bits),
+                             BLANK << (WIDTH * luck.randrange(bits // WIDTH)), 1 << bits):
                     left = self.left(image, lambda chip: chip.erase(block), mask)
                     is_broken = tree is not None and left != tree and mask < 1 << bits and not image[block][0]
                     self.assertIs(accepts(("erase breaks", image, block), mask), is_broken)
@@ -186,7 +193,8 @@ class JudgeTest(unittest.TestCase):
         for paper, right in ((0, True), (BLANK, False), (BLANK + 1, False), (BLANK * 2 + 2, False), (-1, False)):
             self.assertIs(accepts(claim, paper), right)
         claim = ("erase breaks", LEFT, 0)
-        for paper, right in ((BLANK, True), ((1 << 5 * WIDTH) - 1, True), ((1 << 5 * WIDTH) + BLANK, False), (0, False)):
+        for paper, right in ((BLANK, True), ((1 << 5 * WIDTH) - 1, True), ((1 << 5 * WIDTH) + BLANK, False),
+                             (0, False)):
             self.assertIs(accepts(claim, paper), right)
 
     def test_bad_blocks_and_images_that_do_not_open(self):
@@ -203,7 +211,8 @@ class JudgeTest(unittest.TestCase):
         fails = (DONE, ("fails", BLANK))
         other = played(BLOCKS, fails, 1, 2, DEEDS)[0]
         claim = ("leads to", BLOCKS, 1, 2, DEEDS, LEFT)
-        for paper, right in (((), True), ((DONE,) * 400, True), ((DONE,) * 401, False), (fails, False), ((("cut", 0),), False),
+        for paper, right in (((), True), ((DONE,) * 400, True), ((DONE,) * 401, False), (fails, False),
+                             ((("cut", 0),), False),
                              ((DONE,) * 50 + (("cut", BLANK),), True), ((DONE,) * 50 + (("cut", BLANK + 1),), False),
                              ((DONE,) * 50 + (("fails", GREAT),), False), ([DONE], False), (("done",), False)):
             self.assertIs(accepts(claim, paper), right)
@@ -278,7 +287,8 @@ class CertifyTest(FlashCase):
     def test_erases(self):
         luck, met = seeded(68), {}
         giver = image_of(5, 5, (head(5, 1), note(1, 0, A, 1), note(1, 1, ONE, ("file", 3))))
-        paged = image_of(5, 5, (head(5, 1), note(1, 0, A, 1), note(1, 1, ONE, ("file", 3))), (head(5, 2), note(1, 2, A, 1)),
+        paged = image_of(5, 5, (head(5, 1), note(1, 0, A, 1), note(1, 1, ONE, ("file", 3))),
+                         (head(5, 2), note(1, 2, A, 1)),
                          (head(5, 3), note(2, 1, A, None)))
         for image in (giver, paged):
             for block in range(5):
@@ -310,7 +320,8 @@ class CertifyTest(FlashCase):
         image = image_of(5, 5, (head(5, 1), note(1, 0, A, 1), note(1, 1, ONE, ("file", 3))), (512, head(5, 7, 7), 512))
         told = certify_erase(image, 1)
         self.assertEqual((told[0][0], told[1]), ("erase breaks", BLANK))
-        image = image_of(5, 6, (head(5, 1), note(1, 0, A, 1), note(1, 1, ONE, ("file", 3))), (note(7, 1, A, None), 512, head(5, 7, 7)))
+        image = image_of(5, 6, (head(5, 1), note(1, 0, A, 1), note(1, 1, ONE, ("file", 3))),
+                         (note(7, 1, A, None), 512, head(5, 7, 7)))
         self.assertIsNone(certify_erase(image, 1))
 
     def test_bad_blocks(self):

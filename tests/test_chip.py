@@ -82,7 +82,8 @@ class DoneTest(unittest.TestCase):
         chip = Chip(image_of(block_of((513,), erasures=4)), (DONE, DONE))
         self.assertIs(chip.program(0, 0, 1), True)
         self.assertIs(chip.program(4, 4, 7), True)
-        self.assertEqual(chip.image(), image_of(block_of((1,), erasures=4), *image_of()[1:4], block_of((BLANK,) * 4 + (7,))))
+        self.assertEqual(chip.image(), image_of(block_of((1,), erasures=4), *image_of()[1:4],
+                                                block_of((BLANK,) * 4 + (7,))))
         self.assertIs(chip.erase(0), True)
         self.assertEqual(chip.image()[0], block_of((), erasures=5))
         self.assertEqual((chip.operations(), chip.is_cut()), (3, False))

@@ -8,7 +8,8 @@ from flashtrees.examiner import findings, may_erase
 from flashtrees.pages import BLANK, WIDTH, erase_may_leave, state_of
 from flashtrees.reading import is_orderly, listed, start_of, table_of
 from flashtrees.store import opened_tree
-from tests.images import (A, B, HALF, ONE, PIECE, ByHand, drop, head, image_of, note, orderly_image, some_page_of, wild_image,
+from tests.images import (A, B, HALF, ONE, PIECE, ByHand, drop, head, image_of, note, orderly_image, some_page_of,
+                          wild_image,
                           with_page)
 from tests.shelves import may_erase_by_hand
 from tests.stories import cut_mask
@@ -54,13 +55,15 @@ class FindingsTest(unittest.TestCase):
             (two, note(1, 2, A, 1)): (("elder behind", 0, 2),), (one, note(1, 2, A, 2)): (("unlike", 0, 2),),
             (two, one): (("turned back", 0, 2), ("elder behind", 0, 2)),
             (one, note(1, 1, A, 2)): (("ended", 0, 2), ("unlike", 0, 2)),
-            (one, two, note(1, 1, A, 2)): (("ended", 0, 3), ("turned back", 0, 3), ("elder behind", 0, 3), ("unlike", 0, 3)),
+            (one, two, note(1, 1, A, 2)): (("ended", 0, 3), ("turned back", 0, 3), ("elder behind", 0, 3),
+                                           ("unlike", 0, 3)),
             (one, note(1, 2, A, None)): (("unlike", 0, 2),),
             (one, note(1, 2, A, 2), note(1, 2, A, 1)): (("unlike", 0, 2), ("unlike", 0, 3)),
             (note(2, 2, A, 2), note(1, 2, A, 1), note(1, 2, A, 1)): (("elder behind", 0, 2), ("elder behind", 0, 3)),
             # What is told by notes that do not count, and by copies, is not asked for.
             (note(1, 0, A, 1), note(1, 2, A, 2)): (), (note(2, 2, A, 2), note(1, 1, B, 1)): (),
-            (note(2, 0, A, 1), note(1, 2, A, 1)): (), (one, note(1, 2, A, 1)): (), (note(1, 0, A, 1), note(1, 0, A, 2)): (),
+            (note(2, 0, A, 1), note(1, 2, A, 1)): (), (one, note(1, 2, A, 1)): (),
+            (note(1, 0, A, 1), note(1, 0, A, 2)): (),
             # The notes of one deed count together, once its end note is there.
             (note(1, 0, A, 1), note(1, 1, A, 2)): (("unlike", 0, 2),)}
         for row, found in rows.items():
@@ -69,9 +72,11 @@ class FindingsTest(unittest.TestCase):
             self.assertIs(is_orderly(image), found == ())
 
     def test_same_orders(self):
-        rows = ((head(6, 4),), (head(6, 2), note(3, 1, B, 1)), (HIGH, head(6, 4), note(1, 1, B, 1)), (head(6, 2),), (head(6, 4),))
+        rows = ((head(6, 4),), (head(6, 2), note(3, 1, B, 1)), (HIGH, head(6, 4), note(1, 1, B, 1)), (head(6, 2),),
+                (head(6, 4),))
         self.assertEqual(findings(image_of(6, 5, *rows)), (
-            ("same order", 3, 0), ("same order", 2, 0), ("turned back", 2, 2), ("elder behind", 2, 2), ("same order", 4, 0)))
+            ("same order", 3, 0), ("same order", 2, 0), ("turned back", 2, 2), ("elder behind", 2, 2),
+            ("same order", 4, 0)))
 
     def test_in_the_order_of_listed_blocks(self):
         one = note(1, 1, A, 1)
@@ -97,7 +102,8 @@ class FindingsTest(unittest.TestCase):
 
 class EraseTest(FlashCase):
     def test_blank_and_half_blocks(self):
-        for row, right in (((), True), ((HIGH,) * 5, True), ((LOW,), False), ((HALF,), False), ((HIGH, HIGH, HIGH, HIGH, LOW), False),
+        for row, right in (((), True), ((HIGH,) * 5, True), ((LOW,), False), ((HALF,), False),
+                           ((HIGH, HIGH, HIGH, HIGH, LOW), False),
                            ((BLANK - 1,), True), ((BLANK - 1024,), True), ((0,), False), ((512,), True)):
             for block in range(5):
                 image = image_of(5, 5, *([()] * block + [row]))
@@ -109,7 +115,8 @@ class EraseTest(FlashCase):
         for row, others, right in (
                 ((drop(4),), (), False), ((drop(4),), (drop(4),), True), ((drop(4),), (HIGH, head(5, 4, 4)), True),
                 ((drop(3),), (drop(4),), True), ((drop(5),), (drop(4),), False), ((drop(1),), (), True),
-                ((head(5, 3, 3), drop(4)), (drop(4),), True), ((head(5, 4, 4),), (), False), ((head(5, 1, 1),), (), True),
+                ((head(5, 3, 3), drop(4)), (drop(4),), True), ((head(5, 4, 4),), (), False),
+                ((head(5, 1, 1),), (), True),
                 ((head(5, 4, 4),), (drop(4),), True), ((head(5, 3, 3), note(1, 1, B, 1)), (drop(4),), True)):
             image = image_of(5, 5, row, others, old)
             self.assertIs(may_erase(image, 0), right, (row, others))
@@ -117,7 +124,8 @@ class EraseTest(FlashCase):
     def test_heads(self):
         start = (drop(9),)
         for row, right in (((head(5, 1),), True), ((HIGH, head(5, 1)), True), ((head(5, 1), head(5, 2)), False),
-                           ((512, head(5, 1)), False), ((note(1, 1, A, 1), head(5, 1)), False), ((512, note(1, 1, A, 1)), True),
+                           ((512, head(5, 1)), False), ((note(1, 1, A, 1), head(5, 1)), False),
+                           ((512, note(1, 1, A, 1)), True),
                            ((head(6, 1),), True), ((head(5, 1), head(6, 2)), True), ((drop(9), head(5, 1)), False)):
             self.assertIs(may_erase(image_of(5, 6, row, start), 0), right, row)
 
@@ -125,10 +133,13 @@ class EraseTest(FlashCase):
         copy, origin = note(1, 2, A, 1), note(1, 1, A, 1)
         other = (head(5, 1), origin, note(3, 0, B, 1), note(4, 2, B, 2))
         for row, right in (
-                ((), True), ((copy,), True), ((copy, copy), True), ((origin,), False), ((copy, note(2, 1, B, 1)), False),
-                ((note(5, 0, B, 1),), True), ((copy, drop(1)), False), ((drop(1),), False), ((note(2, 2, A, 1),), False),
+                ((), True), ((copy,), True), ((copy, copy), True), ((origin,), False),
+                ((copy, note(2, 1, B, 1)), False),
+                ((note(5, 0, B, 1),), True), ((copy, drop(1)), False), ((drop(1),), False),
+                ((note(2, 2, A, 1),), False),
                 ((note(1, 2, A, 2),), False), ((note(1, 2, B, 1),), False), ((note(3, 2, B, 1),), False),
-                ((note(4, 2, B, 2), copy), True), ((copy, HIGH), True), ((copy, LOW), False), ((note(6, 2, ONE, FILE),), False)):
+                ((note(4, 2, B, 2), copy), True), ((copy, HIGH), True), ((copy, LOW), False),
+                ((note(6, 2, ONE, FILE),), False)):
             image = image_of(5, 6, other, (head(5, 2),) + row)
             self.assertEqual(len(listed(image)), 2)
             self.assertIs(may_erase(image, 1), right, row)

@@ -54,7 +54,8 @@ class FormTest(unittest.TestCase):
                 self.assertEqual((name, [each.name for each in node.names]), ("__main__.py", ["sys"]))
             if isinstance(node, ast.ImportFrom):
                 self.assertEqual(node.level, 0, name)
-                self.assertTrue(node.module.split(".")[0] in LIBRARY | {"flashtrees", "__future__"}, (name, node.module))
+                self.assertTrue(node.module.split(".")[0] in LIBRARY | {"flashtrees", "__future__"},
+                                (name, node.module))
                 self.assertNotIn("*", [each.name for each in node.names])
 
     def test_imports_name_the_file_that_defines(self):

@@ -17,7 +17,8 @@ FUNCTIONS = {
         "erase_may_leave": ("old", "result"), "clash": ("checks",)},
     chip: {"is_image": ("value",), "blank_image": ("blocks", "pages"), "is_luck": ("value",)},
     notes: {
-        "head_numbers": ("many", "order", "start", "bads", "erasures"), "note_numbers": ("deed", "flag", "key", "value"),
+        "head_numbers": ("many", "order", "start", "bads", "erasures"),
+        "note_numbers": ("deed", "flag", "key", "value"),
         "drop_numbers": ("start",), "told_of": ("many", "numbers"), "is_key": ("value",), "is_value": ("key", "value"),
         "is_name": ("value",)},
     reading: {**{name: ("image",) for name in OF_IMAGE}, "told_by_table": ("table",), "next_page": ("image", "block")},
@@ -25,7 +26,8 @@ FUNCTIONS = {
         "is_tree": ("value",), "is_deed": ("value",), "is_path": ("value",), "node_at": ("tree", "path"),
         "refusal": ("tree", "deed"), "behind": ("tree", "deed"), "paths_of": ("tree",), "links_of": ("tree", "path")},
     turning: {
-        "is_sound": ("table",), "tree_told": ("table",), "live_keys": ("table",), "notes_for": ("table", "first", "deed"),
+        "is_sound": ("table",), "tree_told": ("table",), "live_keys": ("table",),
+        "notes_for": ("table", "first", "deed"),
         "table_behind": ("table", "notes"), "table_for": ("tree",)},
     store: {"opened_tree": ("image",), "played": ("image", "luck", "spare", "held", "deeds")},
     examiner: {"findings": ("image",), "may_erase": ("image", "block")},
@@ -45,7 +47,8 @@ METHODS = {
         "space": ("self",), "free": ("self",), "reserve": ("self",)},
     store.Store: {
         "__init__": ("self", "chip", "spare", "held"), "live": ("self",), "do": ("self", "deed"), "sync": ("self",),
-        "why_not": ("self", "deed"), "tree": ("self",), "names": ("self", "path"), "cells": ("self", "path", "at", "many"),
+        "why_not": ("self", "deed"), "tree": ("self",), "names": ("self", "path"),
+        "cells": ("self", "path", "at", "many"),
         "pause": ("self",), "resume": ("self",)},
     desk.Desk: {"__init__": ("self",), "say": ("self", "line"), "image": ("self",)},
     errors.InvalidPage: {"__init__": GIVEN}, errors.InvalidNumber: {"__init__": GIVEN},

@@ -35,7 +35,8 @@ def head_of(image, block):
 
 
 def bad(image, *blocks):
-    return tuple([(block in blocks or is_bad, erasures, pages) for block, (is_bad, erasures, pages) in enumerate(image)])
+    rows = enumerate(image)
+    return tuple([(block in blocks or is_bad, erasures, pages) for block, (is_bad, erasures, pages) in rows])
 
 
 def notes_with_flags(image):
@@ -50,12 +51,14 @@ class OpenTest(FlashCase):
                     chip = Chip(blank_image(many, size), ())
                     shelf = Shelf(chip, spare)
                     room = (many - spare - 2) * (size - 2)
-                    self.assertEqual((shelf.room, shelf.free(), shelf.reserve(), shelf.bads), (room, many, spare + 1, ()))
+                    self.assertEqual((shelf.room, shelf.free(), shelf.reserve(), shelf.bads),
+                                     (room, many, spare + 1, ()))
                     self.assertEqual((shelf.space(), shelf.live(), shelf.table()), (room + size - 2, 0, ()))
                     self.assertEqual(chip.operations(), 0)
 
     def test_what_the_current_head_told(self):
-        image = image_of(6, 6, (head(6, 4, 1, (0, 5), (9, 9, 9, 9, 9, 9)),), (head(6, 5, 1, (2, 4), (1, 2, 3, 4, 5, 6)),))
+        image = image_of(6, 6, (head(6, 4, 1, (0, 5), (9, 9, 9, 9, 9, 9)),),
+                         (head(6, 5, 1, (2, 4), (1, 2, 3, 4, 5, 6)),))
         shelf = Shelf(Chip(image, ()), 2)
         self.assertEqual((shelf.bads, shelf.free(), shelf.reserve(), shelf.space()), ((2, 4), 2, 1, 4 + 4))
         few = Shelf(Chip(image, ()), 0)
@@ -195,7 +198,8 @@ class DeedTest(FlashCase):
         shelf = Shelf(chip, 0)
         shelf.do(MADE)
         left = chip.image()
-        for notes in (((B, 2),), ((("name", 1, "x"), 9), (ONE, ("folder", 0))), ((("name", 1, "x"), 1), (ONE, ("folder", 0))), (((("piece", 1, 1), (1,) * 5)),),
+        for notes in (((B, 2),), ((("name", 1, "x"), 9), (ONE, ("folder", 0))),
+                      ((("name", 1, "x"), 1), (ONE, ("folder", 0))), (((("piece", 1, 1), (1,) * 5)),),
                       tuple([(("name", 0, "f" + str(k)), 7) for k in range(9)])):
             self.assert_refused(NotSound(), shelf.do, notes)
         self.assertEqual(chip.image(), left)
@@ -227,8 +231,9 @@ class DeedTest(FlashCase):
         self.assertIsNone(shelf.do(names[:7]))
 
     def test_no_room_for_what_lives_alone(self):
-        rows = [(head(5, 1),) + tuple([note(k + 1, 2, ("name", 0, "a" * (k + 1)), 1) for k in range(6)]),
-                (head(5, 2), note(9, 2, ONE, ("file", 0))) + tuple([note(k + 20, 2, ("name", 0, "b" * k), 1) for k in range(1, 9)])]
+        rows = [(head(5, 1),) + tuple([note(k, 2, ("name", 0, "a" * k), 1) for k in range(1, 7)]),
+                (head(5, 2), note(9, 2, ONE, ("file", 0)))]
+        rows[1] += tuple([note(k + 20, 2, ("name", 0, "b" * k), 1) for k in range(1, 9)])
         chip = Chip(image_of(5, 12, *rows), ())
         self.assertEqual(Shelf(chip, 0).live(), 15)
         shelf = Shelf(chip, 1)
@@ -291,7 +296,8 @@ class FailTest(FlashCase):
         self.assertEqual((shelf.space(), shelf.free(), shelf.reserve()), (12, 5, 1))
         shelf.do(((C, None),))
         image = chip.image()
-        self.assertEqual(notes_with_flags(image), [(0, 1, 1, 0), (0, 2, 1, 1), (1, 1, 1, 2), (1, 2, 1, 2), (1, 3, 2, 1)])
+        self.assertEqual(notes_with_flags(image), [(0, 1, 1, 0), (0, 2, 1, 1), (1, 1, 1, 2), (1, 2, 1, 2),
+                                                   (1, 3, 2, 1)])
         self.assertEqual([each[4] for each in notes_in(image)], [A, ONE, A, ONE, C])
 
     def test_only_what_lives_is_lacking(self):
@@ -340,7 +346,8 @@ class FailTest(FlashCase):
                 shelf = Shelf(chip, 1)
                 shelf.do(notes)
                 self.assertEqual(shelf.bads, (1,))
-                self.assertEqual(notes_with_flags(chip.image()), [(0, 1, 1, 0), (0, 2, 1, 0), (0, 3, 1, 0), (2, 1, 1, 1)])
+                self.assertEqual(notes_with_flags(chip.image()),
+                                 [(0, 1, 1, 0), (0, 2, 1, 0), (0, 3, 1, 0), (2, 1, 1, 1)])
 
     def test_a_space_that_failures_leave(self):
         """F - R is always N - SPARE - 1 less the number of good blocks."""
@@ -356,11 +363,13 @@ class FailTest(FlashCase):
 
 class AnewTest(FlashCase):
     def rows(self, *last):
-        return ((head(6, 1), note(1, 0, A, 1), note(1, 1, ONE, ("file", 20)), note(2, 1, B, None)), (head(6, 2),) + last)
+        return ((head(6, 1), note(1, 0, A, 1), note(1, 1, ONE, ("file", 20)), note(2, 1, B, None)),
+                (head(6, 2),) + last)
 
     def test_begun_anew_ahead_of_the_first_deed_with_notes(self):
         copy = note(1, 2, A, 1)
-        for last in ((), (copy,), (copy, note(1, 2, ONE, ("file", 20))), (note(3, 0, C, None),), (RAGGED, copy), (copy, RAGGED)):
+        for last in ((), (copy,), (copy, note(1, 2, ONE, ("file", 20))), (note(3, 0, C, None),), (RAGGED, copy),
+                     (copy, RAGGED)):
             chip = Chip(image_of(6, 5, *self.rows(*last)), ())
             shelf = Shelf(chip, 1)
             self.assertEqual(chip.operations(), 0)
@@ -373,7 +382,8 @@ class AnewTest(FlashCase):
             self.assertEqual(chip.operations(), 4)
 
     def test_not_begun_anew(self):
-        for last in ((note(3, 1, C, None),), (note(1, 2, A, 1), drop(1)), (note(3, 2, C, None),), (note(2, 2, C, None),),
+        for last in ((note(3, 1, C, None),), (note(1, 2, A, 1), drop(1)), (note(3, 2, C, None),),
+                     (note(2, 2, C, None),),
                      (5,), (head(6, 9),)):
             chip = Chip(image_of(6, 5, *self.rows(*last)), ())
             shelf = Shelf(chip, 1)
@@ -516,10 +526,9 @@ class CleaningTest(FlashCase):
 
     def test_a_hundred_cleanings_in_a_row(self):
         """All blocks are listed, and the current one is full: no cleaning can begin."""
-        rows = [(head(5, order),) + tuple([note(3 * order + k, 1, ("name", 0, "abcde"[order - 1] + str(k)), 1) for k in range(3)])
-                for order in range(1, 6)]
-        rows[0] = (head(5, 1), note(1, 1, ONE, ("file", 0)), note(2, 1, B, None), note(3, 1, C, None), HALF)
-        rows[1:] = [row[:2] + (HALF, HALF, HALF) for row in rows[1:]]
+        rows = [(head(5, 1), note(1, 1, ONE, ("file", 0)), note(2, 1, B, None), note(3, 1, C, None), HALF)]
+        for order in range(2, 6):
+            rows.append((head(5, order), note(order * 3, 1, ("name", 0, "n" + str(order)), 1), HALF, HALF, HALF))
         image = image_of(5, 5, *rows)
         chip = Chip(image, ())
         shelf = Shelf(chip, 0)

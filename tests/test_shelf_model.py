@@ -47,7 +47,8 @@ class BesideTest(unittest.TestCase):
         reading = hand.reading()
         if not hand.chip.is_cut():
             told = (shelf.space(), shelf.free(), shelf.reserve(), shelf.bads, shelf.room, shelf.live(), shelf.table())
-            self.assertEqual(told, (hand.space(), len(hand.free()), hand.reserve(), tuple(sorted(hand.bads)), hand.room(),
+            self.assertEqual(told, (hand.space(), len(hand.free()), hand.reserve(), tuple(sorted(hand.bads)),
+                                    hand.room(),
                                     len(hand.live()), tuple(told_by_table(reading.table))))
 
     def run_beside(self, luck, image, spare, told, most):

@@ -42,7 +42,8 @@ class OpenTest(FlashCase):
                 for spare in range(min(3, many - 4) + 1):
                     chip = Chip(blank_image(many, size), ())
                     store = Store(chip, spare, 0)
-                    self.assertEqual((store.room, store.tree(), store.live()), ((many - spare - 2) * (size - 2), EMPTY, 0))
+                    self.assertEqual((store.room, store.tree(), store.live()),
+                                     ((many - spare - 2) * (size - 2), EMPTY, 0))
                     self.assertEqual((told(store), chip.operations()), ((0, 0, 0), 0))
 
     def test_when_it_is_refused(self):
@@ -62,10 +63,12 @@ class OpenTest(FlashCase):
         image = image_with(*pairs)
         store = Store(Chip(image, ()), 0, 0)
         self.assertEqual((store.tree(), opened_tree(image), store.live()), (tree, tree, 6))
-        self.assertEqual((store.names(()), store.names(A), store.names(("a", "x")), store.names(B)), (A, ("x", "y"), None, None))
+        self.assertEqual((store.names(()), store.names(A), store.names(("a", "x")), store.names(B)),
+                         (A, ("x", "y"), None, None))
         self.assertEqual(store.cells(("a", "y"), 15, 2), (0, 7))
         self.assertEqual(store.cells(("a", "y"), 17, 256), (8,))
-        self.assertEqual((store.cells(("a", "y"), 18, 9), store.cells(("a", "y"), 256, 256), store.cells(("a", "x"), 0, 0)),
+        self.assertEqual((store.cells(("a", "y"), 18, 9), store.cells(("a", "y"), 256, 256),
+                          store.cells(("a", "x"), 0, 0)),
                          ((), (), ()))
         self.assertEqual((store.cells(A, 0, 1), store.cells((), 0, 1), store.cells(("a", "x", "y"), 0, 1)), (None,) * 3)
 
@@ -114,7 +117,8 @@ class DeedTest(FlashCase):
             self.assertEqual(store.why_not(deed), "no room")
         # L and the notes up to ROOM, and no more live keys.
         self.assertIsNone(store.why_not(("all", (("remove", A), ("cut", B, 1), ("cut", C, 1)))))
-        self.assertEqual(store.why_not(("all", (("cut", A, 1), ("remove", A), ("file", A), ("cut", B, 1), ("cut", C, 1)))),
+        self.assertEqual(store.why_not(("all", (("cut", A, 1), ("remove", A), ("file", A), ("cut", B, 1),
+                                                ("cut", C, 1)))),
                          "no room")
         store.do(("all", (("remove", A), ("write", B, 0, (1,)))))
         self.assertEqual(store.live(), 5)
@@ -128,7 +132,8 @@ class DeedTest(FlashCase):
         pairs = [(("name", 0, "n" + str(k)), 1) for k in range(8)] + [(("node", 1), ("file", 3))]
         store = Store(Chip(image_with(*pairs), ()), 0, 0)
         self.assertEqual((store.room, store.live(), store.why_not(("cut", ("n1",), 3))), (30, 9, None))
-        small = Store(Chip(image_of(6, 5, (head(6, 1), note(1, 0, *pairs[0]), note(1, 0, *pairs[1]), note(1, 0, *pairs[2])),
+        small = Store(Chip(image_of(6, 5, (head(6, 1), note(1, 0, *pairs[0]), note(1, 0, *pairs[1]),
+                                           note(1, 0, *pairs[2])),
                                     (head(6, 2), note(1, 0, *pairs[3]), note(1, 0, *pairs[4]), note(1, 0, *pairs[5])),
                                     (head(6, 3), note(1, 1, *pairs[8]))), ()), 2, 0)
         self.assertEqual((small.room, small.live()), (6, 7))
@@ -142,7 +147,8 @@ class DeedTest(FlashCase):
             chip = Chip(blank_image(6, 12), ())
             store = Store(chip, 0, held)
             waiting, written, queue = 0, 0, []
-            for deed, many in ((("file", A), 2), (("cut", A, 0), 0), (("cut", A, 9), 1), (("file", B), 2), (("cut", B, 0), 0),
+            for deed, many in ((("file", A), 2), (("cut", A, 0), 0), (("cut", A, 9), 1), (("file", B), 2),
+                               (("cut", B, 0), 0),
                                (("link", A, C), 1), (("remove", A), 1), (("cut", B, 0), 0)):
                 self.assertEqual(store.do(deed), many)
                 queue.append(many)
@@ -208,7 +214,8 @@ class PauseTest(FlashCase):
         self.assertEqual((told(store), store.resume()), ((2, 1, 2), 1))
 
 
-CALLS = (("do", ("file", D)), ("sync",), ("why_not", ("file", D)), ("tree",), ("names", ()), ("cells", A, 0, 1), ("live",),
+CALLS = (("do", ("file", D)), ("sync",), ("why_not", ("file", D)), ("tree",), ("names", ()), ("cells", A, 0, 1),
+         ("live",),
          ("pause",), ("resume",))
 
 
@@ -267,7 +274,8 @@ class WornTest(FlashCase):
         return chip, store
 
     def test_what_stays(self):
-        for outcome, tree in ((("fails", 0), after(("file", A), ("link", A, B))), (("fails", BLANK), after(("file", A)))):
+        for outcome, tree in ((("fails", 0), after(("file", A), ("link", A, B))),
+                              (("fails", BLANK), after(("file", A)))):
             chip, store = self.worn(outcome)
             left, now = chip.image(), after(("file", A), ("link", A, B))
             self.assertEqual((told(store), store.tree(), opened_tree(left)), ((1, 2, 3), now, tree))
@@ -278,7 +286,8 @@ class WornTest(FlashCase):
                 [job for name in "wxyz" for job in (("file", (name,)), ("write", (name,), 0, (1,) * 99))][:7])))
             for call in (store.sync, store.resume):
                 self.assert_refused(WornOut(), call)
-            self.assertEqual((told(store), chip.image(), store.tree(), store.names(())), ((1, 2, 3), left, now, ("a", "b")))
+            self.assertEqual((told(store), chip.image(), store.tree(), store.names(())),
+                             ((1, 2, 3), left, now, ("a", "b")))
             self.assertEqual((store.why_not(("file", D)), store.live(), store.cells(B, 0, 9)), (None, 3, ()))
 
     def test_a_pause_goes_on(self):
@@ -330,11 +339,13 @@ class WornTest(FlashCase):
                     self.assertIsNone(store.why_not(deed))
                     self.assert_refused(WornOut(), store.do, deed)
                 self.assertEqual((told(store), chip.image(), store.sync()), ((0, 0, 0), left, 0))
-                self.assertEqual((store.do(("link", A, B)), store.do(("remove", A)), store.do(("cut", B, 1))), (1, 1, 1))
+                self.assertEqual((store.do(("link", A, B)), store.do(("remove", A)), store.do(("cut", B, 1))),
+                                 (1, 1, 1))
                 self.assertEqual(opened_tree(chip.image()), store.tree())
             else:
                 store.do(("all", tuple([("folder", (name,)) for name in "bcdefghi"])))
-                self.assertEqual(max([value for key, value in table_of(chip.image()) if key[0] == "name"]), GREATEST - 1)
+                self.assertEqual(max([value for key, value in table_of(chip.image()) if key[0] == "name"]),
+                                 GREATEST - 1)
                 self.assert_refused(WornOut(), store.do, ("folder", ("z",)))
 
     def test_played(self):
@@ -342,7 +353,8 @@ class WornTest(FlashCase):
         image, done, ended = played(blank_image(5, 5), (), 0, 60, deeds)
         self.assertEqual((opened_tree(image), done, ended), (after(deeds[0], deeds[2], deeds[4]), (0, 2, 4), "synced"))
         # The operation that goes wrong is the note of the link, then an end note in the sync.
-        for held, many, done_here, kept in ((0, 4, (0,), deeds[:1]), (3, 4, (0, 2, 4), deeds[:1]), (60, 3, (0, 2, 4), ())):
+        for held, many, done_here, kept in ((0, 4, (0,), deeds[:1]), (3, 4, (0, 2, 4), deeds[:1]),
+                                            (60, 3, (0, 2, 4), ())):
             for outcome, word in ((("fails", BLANK), "worn out"), (("cut", BLANK), "cut")):
                 image, done, ended = played(blank_image(5, 5), (DONE,) * many + (outcome,), 0, held, deeds)
                 self.assertEqual((done, ended, opened_tree(image)), (done_here, word, after(*kept)))

@@ -66,8 +66,10 @@ class SoundTest(FlashCase):
         self.assertIs(is_sound(table((A, 1), (B, 1), (("node", 1), ("file", 0)))), True)
         self.assertIs(is_sound(table((A, 1), (B, None), (("node", 1), FOLDER))), True)
         self.assertIs(is_sound(table((A, 1), (("name", 9, "b"), 1), (("node", 1), FOLDER))), True)
-        self.assertIs(is_sound(table((A, 1), (("name", 2, "b"), 1), (("node", 1), FOLDER), (("node", 2), FOLDER))), True)
-        circle = table((A, 1), (("name", 1, "x"), 2), (("name", 2, "x"), 1), (("node", 1), FOLDER), (("node", 2), FOLDER))
+        self.assertIs(is_sound(table((A, 1), (("name", 2, "b"), 1), (("node", 1), FOLDER), (("node", 2), FOLDER))),
+                      True)
+        circle = table((A, 1), (("name", 1, "x"), 2), (("name", 2, "x"), 1), (("node", 1), FOLDER),
+                       (("node", 2), FOLDER))
         self.assertIs(is_sound(circle), False)
         itself = table((A, 1), (("name", 1, "x"), 1), (("node", 1), FOLDER))
         self.assertIs(is_sound(itself), False)
@@ -180,7 +182,8 @@ class NotesTest(FlashCase):
                           (("node", FIRST + 3), ("file", 0)))
 
     def test_first_is_above_all_numbers(self):
-        for pairs, greatest in (((), 0), (((A, None),), 0), (((("name", 7, "a"), None),), 7), (((("node", 9), FOLDER),), 9),
+        for pairs, greatest in (((), 0), (((A, None),), 0), (((("name", 7, "a"), None),), 7),
+                                (((("node", 9), FOLDER),), 9),
                                 (((("piece", 8, 15), (65535,)),), 8), (((("name", 2, "z"), 5),), 5)):
             for first in (greatest - 1, greatest, -1, 0, True, "9", GREATEST - 7):
                 if first != 1:

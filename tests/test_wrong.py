@@ -167,7 +167,8 @@ class WrongTest(FlashCase):
                     self.assert_refused(InvalidNumber(value), store.Store, chip, most, value)
             for held in (0, 1, 300):
                 chip = Chip(blank_image(many, 5), ())
-                self.assertEqual(store.Store(chip=chip, spare=most, held=held).room, shelf.Shelf(chip=chip, spare=most).room)
+                self.assertEqual(store.Store(chip=chip, spare=most, held=held).room,
+                                 shelf.Shelf(chip=chip, spare=most).room)
 
     def test_right_ends_of_indexes(self):
         for block in (0, 6):

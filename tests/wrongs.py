@@ -42,7 +42,8 @@ OTHER_FIRST = (False, 0, FULL + (BLANK,))
 
 def wrong_pairs(error):
     """What is no tuple of keys and values, the keys ascending."""
-    return [(value, error(None)) for value in NO_TUPLES + [list(PAIRS), [], {}]] + wrong_rows(error, PAIRS, BAD_PAIRS) + [
+    rows = [(value, error(None)) for value in NO_TUPLES + [list(PAIRS), [], {}]]
+    return rows + wrong_rows(error, PAIRS, BAD_PAIRS) + [
         ((PAIRS[0],) * 2, error(1)), (PAIRS[1::-1], error(1)), (PAIRS + PAIRS[3:], error(4)),
         (PAIRS + PAIRS[:1], error(4)), (PAIRS + (None,), error(4)), (PAIRS[0], error(0)),
         ((PAIRS[0], (PAIRS[0][0], None)), error(1)), (PAIRS[:3] + (PAIRS[2],) + PAIRS[:1], error(3)),
