@@ -146,13 +146,15 @@ class Shelf:
     def _is_free(self, block):
         return not self._survey.is_listed(block) and block not in self._bads
 
+    def _note_page_of(self, block):
+        """A block's page for the next note; None if there is none."""
+        page = self._survey.next_page(block)
+        return None if page is None or page > self._survey.many_pages - 2 else page
+
     def _note_page(self):
         """The current block's page for the next note; None if there is none, or the block is known bad."""
         current = self._survey.current
-        if current is None or current in self._bads:
-            return None
-        page = self._survey.next_page(current)
-        return None if page is None or page > self._survey.many_pages - 2 else page
+        return None if current is None or current in self._bads else self._note_page_of(current)
 
     def _begin_block(self, block):
         """Erase a block and give it a head; whether both were done."""
@@ -192,7 +194,8 @@ class Shelf:
     def _copy(self, giver):
         """Copy a note into the current block; whether that was done."""
         _, _, deed, _, key, value = giver
-        return self._program(self._survey.current, self._note_page(), note_numbers(deed, COPY, key, value))
+        block = self._survey.current
+        return self._program(block, self._note_page_of(block), note_numbers(deed, COPY, key, value))
 
     def _lacking(self):
         """The givers in listed blocks that are known bad, in order."""
@@ -244,11 +247,9 @@ class Shelf:
         if self.free() >= self.reserve():
             self._take_block()
         block = self._survey.current
-        if block in self._bads:
-            return
         for giver in self._survey.givers():
             if giver[0] != block:
-                if self._note_page() is None:
+                if self._note_page_of(block) is None:
                     break
                 if not self._copy(giver):
                     return

@@ -71,8 +71,9 @@ class ShelfByHand:
     def note_pages(self):
         """The current block's note pages from its next page on."""
         block = self.current()
-        if block is None or block in self.bads:
-            return []
+        return [] if block is None or block in self.bads else self.note_pages_of(block)
+
+    def note_pages_of(self, block):
         page = self.reading().next_page(block)
         return [] if page is None else list(range(page, self.size - 1))
 
@@ -123,7 +124,8 @@ class ShelfByHand:
                 pass
 
     def copy(self, giver):
-        self.program(self.current(), self.note_pages()[0], note(giver[2], 2, giver[4], giver[5]))
+        block = self.current()
+        self.program(block, self.note_pages_of(block)[0], note(giver[2], 2, giver[4], giver[5]))
 
     def lacking(self):
         return [giver for giver in self.givers() if giver[0] in self.bads]
@@ -132,10 +134,8 @@ class ShelfByHand:
         if len(self.free()) >= self.reserve():
             self.begin_next()
         block = self.current()
-        if block in self.bads:
-            return
         for giver in self.givers():
-            if giver[0] != block and self.note_pages():
+            if giver[0] != block and self.note_pages_of(block):
                 self.copy(giver)
         with_givers = [giver[0] for giver in self.givers()] + [block]
         orders = [order for each, order in self.reading().listed if each in with_givers]

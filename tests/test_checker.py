@@ -146,7 +146,7 @@ class JudgeTest(unittest.TestCase):
 
     def test_programs(self):
         luck, met = seeded(64), {}
-        while sum(met.values()) < 1000:
+        while sum(met.values()) < 1500:
             image = luck.choice((orderly_image, rough_image))(luck)
             tree = opened_tree(image)
             block, page = luck.randrange(len(image)), luck.randrange(len(image[0][2]))
@@ -172,7 +172,7 @@ class JudgeTest(unittest.TestCase):
 
     def test_erases(self):
         luck, met = seeded(65), {}
-        while sum(met.values()) < 1500:
+        while sum(met.values()) < 2500:
             image = luck.choice((orderly_image, rough_image))(luck)
             tree, bits = opened_tree(image), WIDTH * len(image[0][2])
             for block in range(len(image)):
@@ -186,7 +186,7 @@ class JudgeTest(unittest.TestCase):
                     self.assertFalse(is_kept and is_broken)
                     met[is_kept, is_broken] = met.get((is_kept, is_broken), 0) + 1
         self.assertGreater(met[True, False], 100)
-        self.assertGreater(met[False, True], 30)
+        self.assertGreater(met[False, True], 15)
 
     def test_masks_that_are_too_wide(self):
         claim = ("program breaks", LEFT, 0, 0, 512, FILE)

@@ -552,6 +552,18 @@ class CleaningTest(FlashCase):
         self.assertEqual([each[4] for each in notes_in(chip.image()) if each[0] == 4], [C, ONE, A])
         self.assertEqual((kinds_in(chip.image())[4][4], start_of(chip.image())), ("drop", 4))
 
+    def test_a_current_block_that_is_bad_and_no_free_one(self):
+        """Nothing can be copied or dropped there, so no cleaning makes space."""
+        last = (head(5, 5, 1, (4,)), note(5, 1, B, None))
+        for eldest in ((note(1, 1, C, None),), (note(1, 1, ONE, ("file", 0)), note(2, 1, A, 1))):
+            rows = [(head(5, 1),) + eldest] + [(head(5, order), note(3, 2, C, None)) for order in range(2, 5)]
+            image = bad(image_of(5, 5, *rows, last), 4)
+            chip = Chip(image, ())
+            shelf = Shelf(chip, 1)
+            self.assertEqual((shelf.bads, shelf.free(), shelf.reserve(), shelf.space()), ((4,), 0, 1, -3))
+            self.assert_refused(WornOut(), shelf.do, ((B, None),))
+            self.assertEqual((chip.operations(), chip.image()), (0, image))
+
     def test_no_page_is_left_for_a_drop(self):
         """All blocks are listed, the eldest ones could be dropped, but the current one is full."""
         rows = [(head(5, order),) + (RAGGED,) * 4 for order in range(1, 5)]

@@ -4,11 +4,12 @@ import unittest
 
 from flashtrees.chip import Chip, blank_image
 from flashtrees.errors import PowerCut, Refused
-from flashtrees.pages import WIDTH
+from flashtrees.notes import told_of
+from flashtrees.pages import WIDTH, told_by
 from flashtrees.reading import greatest_node, listed, table_of, told_by_table
 from flashtrees.shelf import Shelf
 from flashtrees.turning import notes_for, tree_told
-from tests.images import orderly_image, some_page_of, with_page
+from tests.images import head, orderly_image, some_page_of, with_page
 from tests.shelves import ShelfByHand, opens_by_hand
 from tests.stories import small_deed, some_luck
 from tests.support import refusal_of, seeded
@@ -25,8 +26,14 @@ def some_notes(luck, image):
 
 
 def rough_image(luck):
-    """An orderly image in which blocks that are not listed have pages of all kinds."""
+    """An orderly image in which heads tell bad blocks, and blocks that are not listed have pages of all kinds."""
     image = orderly_image(luck)
+    many = len(image)
+    for block, order in listed(image):
+        if luck.random() < 0.3:
+            _, _, start, _, erasures = told_of(many, told_by(image[block][2][0]))
+            bads = tuple([each for each in range(many) if luck.random() < 0.2])
+            image = with_page(image, block, 0, head(many, order, start, bads, erasures))
     blocks = [block for block in range(len(image)) if block not in dict(listed(image))]
     for block in blocks:
         for page in range(len(image[0][2])):
