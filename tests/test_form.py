@@ -98,6 +98,26 @@ class FormTest(unittest.TestCase):
             if isinstance(node, ast.Call) and isinstance(node.func, ast.Attribute):
                 self.assertIn(node.func.attr, own | METHODS | {"__init__"}, name)
 
+    def test_methods_properties_and_attributes_have_names_of_their_own(self):
+        classes = [node for _, node in nodes() if isinstance(node, ast.ClassDef)]
+        parts = [part for node in classes for part in node.body if isinstance(part, ast.FunctionDef)]
+        properties = {part.name for part in parts if part.decorator_list}
+        methods = {part.name for part in parts if not part.decorator_list}
+        attributes = [node for _, node in nodes() if isinstance(node, ast.Attribute)]
+        stored = {node.attr for node in attributes if isinstance(node.ctx, ast.Store)}
+        self.assertEqual((properties & methods, (properties | methods) & stored), (set(), set()))
+        for name, node in nodes():
+            if isinstance(node, ast.Attribute) and isinstance(node.ctx, ast.Load):
+                self.assertIn(node.attr, properties | methods | stored | METHODS, name)
+
+    def test_patterns_capture_no_names_that_mean_something_else(self):
+        for path, tree in trees():
+            taken = {each.name for node in tree.body if isinstance(node, ast.ImportFrom) for each in node.names}
+            for function in [node for node in ast.walk(tree) if isinstance(node, ast.FunctionDef)]:
+                captured = [node.name for node in ast.walk(function) if isinstance(node, (ast.MatchAs, ast.MatchStar))]
+                named = {each.arg for each in function.args.args}
+                self.assertFalse(set(captured) & (taken | named | BUILTINS | NO_BUILTINS), (path, function.name))
+
     def test_numbers_and_strings(self):
         for name, node in nodes():
             if isinstance(node, ast.Constant):
